@@ -1,0 +1,204 @@
+"""Points [2], [3] and [4] for every function: each wrong kind of argument, and which of several errors goes first."""
+
+import inspect
+import unittest
+from itertools import combinations
+
+from everyrounding import cuts, errors, formats, order, places, products, rests, rounding, seats, stations, sums, values
+from everyrounding.errors import Refused, TooMany
+from tests.oracle import assert_refused
+
+FORM = (2, 0, 1)
+JUNK = [None, True, False, "x?", [], [1], (), (1,), ((0, 1, 0),), [(2, 0, 1)], (None, None, None), "\"", ("a", "b", "c")]
+TRIPLES = [[1, 1, 1], (1, 1), (1, 1, 1, 1), (True, True, True), (False, False, False), ("1", 1, 1), (1, [1], 1)]
+WRONG = {
+    "form": JUNK + TRIPLES + [0, (1, 0, 1), (141, 0, 1), (2, -601, 1), (2, 0, 601), (2, 1, 0), (True, 0, 1),
+                              (2, False, 1), (2, 0, True), "2:0:1"],
+    "number": JUNK + TRIPLES + [0, 1, (0, 2, 0), (2, 1, 0), (-1, 1, 0), (0, 1, 2001), (0, 1, -2001), (0, 0, 1),
+                                (0, -1, 1), (1, -2, 0), (0, -3, 0), (0, 1 << 600, 0), (0, (1 << 600) + 1, 0),
+                                (False, 1, 0), (0, True, 0), (0, 1, False), (True, 0, 0), (0, False, 0), "1p0", "nan"],
+    "mode": [None, True, 0, 1, "", "x", "Even", "nearest", ["even"], ("even",), ("even", "odd"), (1, 1, 1)],
+    "exact": JUNK + [0, 1, [1, 1, 1], (1, 1), (1, 1, 1, 1), (True, 1, 1), (1, True, 1), (1, 1, True), (False, 1, 1),
+                     (1, 0, 1), (1, -1, 1), (1, 1, 0), (1, 1, 3), (-1, 1, 2), (1 << 12000, 1, 1),
+                     (1, 1 << 12000, 1), (-(1 << 12000), 1, 1), ("1", 1, 1)],
+    "cut": [cut for cut in JUNK if cut is not None] + [0, [1, 0, 1], (1, 0), (1, 0, 0, 0), (True, 0, 0), (1, False, 0),
+                                                       (1, 0, False), (1, 0, 2), (2, 0, 0), (-1, 0, 0), (0, 1, 0),
+                                                       (1, 2001, 0), (1, -2001, 1), ((1 << 600) + 1, 0, 0), "NEVER"],
+    "op": [None, True, 0, "", "x", "Add", "rest", ["add"], ("add",)],
+    "text": [None, True, 0, ["2:0:1"], ("2:0:1",), "", "?", "?" * 701],
+    "count": [None, True, False, "0", [0], (0,), (0, 1), []],
+    "sign": [None, True, False, "0", [0], (0,), 2, -1],
+}
+ERROR = {"form": "BadFormat", "number": "BadNumber", "mode": "BadMode", "exact": "BadExact", "cut": "BadCut", "op": "BadOp",
+         "text": "BadText", "count": "BadCount", "sign": "BadCount"}
+X, Y, Z = ("number", (0, 3, 1)), ("number", (0, 1, 0)), ("number", (1, 1, 1))
+F, E, C = ("form", FORM), ("exact", (1, 1, 1)), ("cut", (1, 0, 0))
+D = ("cut", (3, 0, 1))
+MODE = {"mode": ("mode", "even")}
+
+
+def step(*numbers):
+    return ([F] + list(numbers), MODE)
+
+
+# For each function its arguments by position, then those by name in the order of the signature: kind and right value.
+CALLS = [
+    (formats.check_format, [F], {}), (formats.over_power, [F], {}), (formats.many, [F], {}), (formats.greatest, [F], {}),
+    (formats.least, [F], {}), (formats.line, [F], {}), (formats.unit_power, [F, ("count", 1)], {}),
+    (formats.holds_all, [F, F], {}), (formats.reaches, [F, F], {}), (formats.finer_by, [F, F], {}),
+    (formats.format_text, [F], {}), (formats.read_format, [("text", "2:0:1")], {}),
+    (values.check_number, [X], {}), (values.kind_of, [X], {}), (values.minus, [X], {}), (values.size, [X], {}),
+    (values.alike, [X, Y], {}), (values.exact_of, [X], {}), (values.fits, [F, X], {}), (values.digits, [X], {}),
+    (values.top_power, [X], {}), (values.show, [X], {}), (values.read_number, [("text", "1p1")], {}),
+    (seats.rank, [F, X], {}), (seats.at_rank, [F, ("count", 1)], {}), (seats.seat, [F, X], {}),
+    (seats.at_seat, [F, ("count", 1)], {}), (seats.bits, [F, X], {}), (seats.from_bits, [F, ("text", "0001")], {}),
+    (seats.next_up, [F, X], {}), (seats.next_down, [F, X], {}), (seats.between, [F, Y, X], {}),
+    (places.check_exact, [E], {}), (places.sign_of, [E], {}), (places.high_power, [E], {}),
+    (places.place, [E, ("count", 1)], {}), (places.compare_exact, [E, E], {}),
+    (rounding.check_mode, [("mode", "up")], {}), (rounding.mirror, [("mode", "up")], {}),
+    (rounding.choose, [("mode", "even"), ("sign", 1), ("count", 1), ("count", 1)], {}),
+    (rounding.rounded, [F, E], {"mode": ("mode", "even"), "s": ("sign", 1)}),
+    (rounding.early_tiny, [F, E], {}), (rounding.late_tiny, [F, E], MODE),
+    (cuts.check_cut, [C], {}), (cuts.cut_at, [F, ("count", 1)], MODE), (cuts.is_above, [E, C], {}),
+    (cuts.cut_less, [C, D], {}), (cuts.cell, [F, Y], MODE), (cuts.inner_point, [C, D], {}),
+    (sums.add, *step(X, Y)), (sums.sub, *step(X, Y)), (sums.muladd, *step(X, Y, Z)), (sums.exact_sum, [X, Y], {}),
+    (products.mul, *step(X, Y)), (products.div, *step(X, Y)), (products.root, *step(X)),
+    (products.exact_product, [X, Y], {}), (products.exact_quotient, [X, Y], {}),
+    (rests.rest, [X, Y], {}), (rests.cut_rest, [X, Y], {}), (rests.whole, [X], MODE), (rests.convert, *step(X)),
+    (rests.scale, [F, X, ("count", 1)], MODE),
+    (order.compare, [X, Y], {}), (order.total, [X, Y], {}), (order.least_of, [X, Y], {}), (order.greatest_of, [X, Y], {}),
+    (order.difference_exact, [F, X, Y], {}), (order.ratio_bound, [F], {}),
+    (order.difference_question, [F, ("count", 1), ("count", 1)], {}),
+    (stations.operands, [("op", "root")], {}), (stations.deed, [("op", "add"), F, X, Y], MODE),
+    (stations.deed, [("op", "muladd"), F, X, Y, Z], MODE), (stations.deed, [("op", "size"), F, X], MODE),
+    (stations.Station, [F], MODE),
+    (seats.Grid, [F], {"low_seat": ("count", 0), "high_seat": ("count", 1)}),
+]
+
+
+def wrong_values(call, kind):
+    """The wrong values of this kind; None is a right seat of a Grid."""
+    return [value for value in WRONG[kind] if not (call is seats.Grid and kind == "count" and value is None)]
+
+
+def slots(positions, named):
+    """The places of all arguments in the order of the signature."""
+    return list(range(len(positions))) + list(named)
+
+
+def told(result):
+    """What a result can be compared by."""
+    if isinstance(result, seats.Grid):
+        return (list(result), len(result), result.form, result.low_seat, result.high_seat)
+    if isinstance(result, stations.Station):
+        return (result.form, result.mode, result.flags, result.many)
+    return result
+
+
+def run(call, positions, named, changed):
+    """Call with the right values, but for those that are changed."""
+    args = [changed.get(at, value) for at, (_, value) in enumerate(positions)]
+    return call(*args, **{name: changed.get(name, value) for name, (_, value) in named.items()})
+
+
+class TestSignatures(unittest.TestCase):
+    def test_modes_after_the_star_default_to_even(self):
+        for call, positions, named in CALLS:
+            parameters = inspect.signature(call).parameters.values()
+            only_named = [p.name for p in parameters if p.kind == p.KEYWORD_ONLY]
+            self.assertEqual(only_named, list(named), call)
+            for p in parameters:
+                if p.name == "mode" and p.kind == p.KEYWORD_ONLY:
+                    self.assertEqual(p.default, "even")
+
+    def test_every_function_is_defined_in_its_file(self):
+        for call, _, _ in CALLS:
+            self.assertEqual(getattr(inspect.getmodule(call), call.__name__), call)
+
+    def test_methods_stand_in_the_class_itself(self):
+        for name in ("do", "under", "forget", "twin", "form", "mode", "flags", "many"):
+            self.assertIn(name, vars(stations.Station))
+        for name in ("form", "low_seat", "high_seat", "__iter__", "__len__", "__contains__"):
+            self.assertIn(name, vars(seats.Grid))
+
+
+class TestWrongArguments(unittest.TestCase):
+    def slot_kinds(self, positions, named):
+        return {**dict(enumerate(kind for kind, _ in positions)), **{name: kind for name, (kind, _) in named.items()}}
+
+    def test_each_alone(self):
+        for call, positions, named in CALLS:
+            kinds = self.slot_kinds(positions, named)
+            right = told(run(call, positions, named, {}))
+            for slot in slots(positions, named):
+                for value in wrong_values(call, kinds[slot]):
+                    error = getattr(errors, ERROR[kinds[slot]])
+                    assert_refused(self, error, self.caller(call, positions, named, {slot: value}))
+                # The same answer again behind the refused calls.
+                self.assertEqual(told(run(call, positions, named, {})), right)
+
+    def test_two_and_three_at_once(self):
+        for call, positions, named in CALLS:
+            kinds = self.slot_kinds(positions, named)
+            for many in (2, 3):
+                for chosen in combinations(slots(positions, named), many):
+                    error = getattr(errors, ERROR[kinds[chosen[0]]])
+                    for turn in range(12):
+                        found = [wrong_values(call, kinds[slot]) for slot in chosen]
+                        changed = {slot: xs[(7 * turn + at) % len(xs)] for at, (slot, xs) in enumerate(zip(chosen, found))}
+                        assert_refused(self, error, self.caller(call, positions, named, changed))
+
+    def caller(self, call, positions, named, changed):
+        def made():
+            return run(call, positions, named, changed)
+        made.__name__ = f"{call.__name__} {changed}"
+        return made
+
+    def test_named_arguments_in_any_order(self):
+        # The order of the signature decides, not the order in which the names stand in the call.
+        assert_refused(self, errors.BadMode, rounding.rounded, FORM, (1, 1, 1), s=9, mode="x")
+        assert_refused(self, errors.BadCount, seats.Grid, FORM, high_seat=None, low_seat=99)
+        assert_refused(self, errors.BadFormat, seats.Grid, None, high_seat=True, low_seat=True)
+
+    def test_all_conditions_of_a_parameter_go_before_the_next_one(self):
+        five = (0, 5, 0)
+        assert_refused(self, errors.BadNumber, cuts.cell, FORM, five, mode=None)
+        assert_refused(self, errors.BadExact, cuts.is_above, (-1, 1, 1), True)
+        assert_refused(self, errors.BadExact, places.place, (1, 0, 1), True)
+        assert_refused(self, errors.BadCount, cuts.cut_at, FORM, 99, mode=None)
+        assert_refused(self, errors.BadCount, order.difference_question, FORM, 1, 0)
+        assert_refused(self, errors.BadNumber, stations.deed, "add", FORM, five, mode=None)
+        assert_refused(self, errors.BadCut, cuts.inner_point, (1, 0, 0), (1, 0, 0))
+
+    def test_passed_lists_and_results_are_apart(self):
+        grid = seats.Grid(FORM)
+        first = list(grid)
+        first.append(None)
+        self.assertEqual(list(grid), list(seats.Grid(FORM)))
+
+    def test_every_error_is_a_refusal(self):
+        self.assertEqual(TooMany.__mro__[1], Refused)
+        self.assertEqual(Refused.__mro__[1], ValueError)
+
+
+class TestTrueForOne(unittest.TestCase):
+    """True equals 1 for Python: a memory of earlier answers must not take it for 1."""
+
+    def swapped(self, value):
+        """The value with one 0 or 1 after another made False or True."""
+        if type(value) is int and value in (0, 1):
+            return [bool(value)]
+        if type(value) is tuple:
+            return [value[:at] + (part,) + value[at + 1:] for at, old in enumerate(value) for part in self.swapped(old)]
+        return []
+
+    def test_between_equal_right_calls(self):
+        for call, positions, named in CALLS:
+            values_told = {**dict(enumerate(positions)), **named}
+            right = told(run(call, positions, named, {}))
+            for slot, (kind, value) in values_told.items():
+                for wrong in self.swapped(value):
+                    with self.assertRaises(getattr(errors, ERROR[kind])) as caught:
+                        run(call, positions, named, {slot: wrong})
+                    self.assertIs(type(caught.exception), getattr(errors, ERROR[kind]))
+                    self.assertEqual(told(run(call, positions, named, {})), right)
