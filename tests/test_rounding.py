@@ -176,11 +176,11 @@ class TestTiny(unittest.TestCase):
                 self.assertIs(late_tiny(form, exact, mode=mode), self.late(form, exact, mode))
 
     def test_zero_and_ends(self):
-        form = (140, -600, 600)
-        for exact in [(0, 1, 1), (0, 3, 2)]:
-            self.assertIs(early_tiny(form, exact), False)
-            for mode in MODES:
-                self.assertIs(late_tiny(form, exact, mode=mode), False)
+        for form in [(2, 0, 2), (2, 600, 600), (140, -600, 600)]:
+            for exact in [(0, 1, 1), (0, 3, 2)]:
+                self.assertIs(early_tiny(form, exact), False)
+                for mode in MODES:
+                    self.assertIs(late_tiny(form, exact, mode=mode), False)
         for exact in [(1, FULL, 1), (-1, FULL, 1), (1, FULL, 2)]:
             self.assertIs(early_tiny(form, exact), True)
             for mode in MODES:

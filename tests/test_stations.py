@@ -43,7 +43,8 @@ class TestDeed(unittest.TestCase):
                 for mode in MODES:
                     for op, call in (("add", add), ("sub", sub), ("mul", mul), ("div", div)):
                         self.assertEqual(deed(op, FORM, x, y, mode=mode), call(FORM, x, y, mode=mode))
-                    self.assertEqual(deed("muladd", FORM, x, y, x, mode=mode), muladd(FORM, x, y, x, mode=mode))
+                    for z in ((0, 1, 1), (1, 1, -1), MINUS_ZERO, INF):
+                        self.assertEqual(deed("muladd", FORM, x, y, z, mode=mode), muladd(FORM, x, y, z, mode=mode))
 
     def test_minus_and_size_round_the_changed_number(self):
         form = (2, 0, 2)
