@@ -3,6 +3,7 @@
 from everyrounding.errors import BadCount, BadText
 
 TEXT_LIMIT = 700
+COUNT_BITS = 9000
 
 
 def is_integer(value):
@@ -22,6 +23,12 @@ def check_count(value, low, high):
     if low is not None and value < low:
         raise BadCount()
     if high is not None and value > high:
+        raise BadCount()
+
+
+def check_any_count(value):
+    """Refuse what is no integer of size below 2^9000."""
+    if not is_integer(value) or value.bit_length() > COUNT_BITS:
         raise BadCount()
 
 

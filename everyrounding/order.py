@@ -6,7 +6,7 @@ from everyrounding.formats import check_format
 from everyrounding.places import lowest
 from everyrounding.sums import dyadic_sum
 from everyrounding.values import NAN, are_alike, check_number, check_valued, compare_integers, compare_sizes
-from everyrounding.values import fits_form, holds_value, is_finite, is_nan, is_zero, odd_parts
+from everyrounding.values import fits_form, holds_or_zero, is_finite, is_nan, is_zero, odd_parts
 from everyrounding.values import signed_part
 
 
@@ -92,10 +92,7 @@ def difference_exact(form, x, y):
     check_valued_fits(form, x)
     check_valued_fits(form, y)
     m, unit = dyadic_sum(signed_part(x), x[2], -signed_part(y), y[2])
-    if m == 0:
-        return True
-    odd, power = odd_parts(m, unit)
-    return holds_value(form, odd, power)
+    return holds_or_zero(form, m, unit)
 
 
 def bound_parts(form):

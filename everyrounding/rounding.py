@@ -10,9 +10,21 @@ MODES = ("even", "away", "zero", "up", "down", "odd")
 FLAGS = ("invalid", "divzero", "overflow", "underflow", "inexact")
 
 
+def is_mode(value):
+    """True for one of the six modes."""
+    return type(value) is str and value in MODES
+
+
 def check_mode(mode):
     """Refuse what is none of the six modes."""
-    if type(mode) is not str or mode not in MODES:
+    if not is_mode(mode):
+        raise BadMode()
+
+
+def check_five(five):
+    """Refuse what is none of the six modes without odd."""
+    check_mode(five)
+    if five == "odd":
         raise BadMode()
 
 

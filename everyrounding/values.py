@@ -67,6 +67,14 @@ def check_finite(x):
         raise BadNumber()
 
 
+def check_numbers(xs, most):
+    """Refuse what is no list of at most so many numbers."""
+    if type(xs) is not list or len(xs) > most:
+        raise BadNumber()
+    for x in xs:
+        check_number(x)
+
+
 def odd_parts(m, q):
     """The odd integer and the power with the value m * 2^q, for m other than zero; m keeps its sign."""
     shift = (m & -m).bit_length() - 1
@@ -137,6 +145,14 @@ def are_alike(x, y):
 def exact_value(x):
     """The exact number of a zero or finite number."""
     return dyadic(signed_part(x), x[2])
+
+
+def holds_or_zero(form, m, q):
+    """True if m * 2^q, m of either sign, is zero or a number of the format, or minus one."""
+    if m == 0:
+        return True
+    odd, power = odd_parts(m, q)
+    return holds_value(form, odd, power)
 
 
 def fits_form(form, x):

@@ -4,7 +4,9 @@ import inspect
 import unittest
 from itertools import combinations
 
-from everyrounding import cuts, errors, formats, order, places, products, rests, rounding, seats, stations, sums, values
+from everyrounding import chains, cuts, decread, decwrite, errors, families, floorsums, formats, gaps, longsum, order
+from everyrounding import places, plans, products, residues, rests, rounding, seats, shortest, splits, stations, sums
+from everyrounding import table, through, values
 from everyrounding.errors import Refused, TooMany
 from tests.oracle import assert_refused
 
@@ -28,13 +30,40 @@ WRONG = {
     "text": [None, True, 0, ["2:0:1"], ("2:0:1",), "", "?", "?" * 701],
     "count": [None, True, False, "0", [0], (0,), (0, 1), []],
     "sign": [None, True, False, "0", [0], (0,), 2, -1],
+    "five": [None, True, 0, "", "odd", "Even", ["even"], ("even",)],
+    "numbers": [None, True, 0, "x", (), ((0, 1, 0),), (0, 1, 0), [1], [None], [(0, 1, 0), None], [[0, 1, 0]], [(0, 2, 0)],
+                [(0, True, 0)], [(False, 1, 0)], [(0, 1, 0)] * 201, [[(0, 1, 0)]]],
+    "chain": JUNK + [0, "even", [(FORM, "even")], (FORM, "even"), ((FORM, "even"),) * 7, ((FORM, "x"),), ((FORM, True),),
+                     ([FORM, "even"],), ((FORM, "even", 1),), (("even", FORM),), (((1, 0, 1), "even"),),
+                     (((True, 0, 1), "even"),), (((2, False, 1), "even"),), ((FORM, "even"), None)],
+    "series": JUNK + [0, [1, 1, 1, 1, 2], (1, 1, 1, 1), (1, 1, 1, 1, 2, 3), (1, 0, 1, 1, 2), (1, 1, 0, 1, 2), (1, 1, 1, 2, 1),
+                      (0, 1, 1, 0, 1), (-1, 1, 1, 1, 2), (True, 1, 1, 1, 2), (1, True, 1, 1, 2), (1, 1, True, 1, 2),
+                      (1, 1, 1, True, 2), (1, 1, 1, 1, True), (1, 1, 1, False, 2), ("1", 1, 1, 1, 2),
+                      (1 << 3000, 1, 1, 1, 2), (1, 1 << 3000, 1, 1, 2), (1, 1, 1 << 3000, 1, 2), (1, 1, 1, 1, 1 << 140)],
+    "family": JUNK + [0, [(1, 1, 1, 1, 2)], (1, 1, 1, 1, 2), ((1, 1, 1, 1, 2),) * 65, ((1, 1, 1, 1, 2), None),
+                      ((1, 1, 1, 2, 1),), ([1, 1, 1, 1, 2],), ((1, True, 1, 1, 2),), ((1, 1, 1, 1, True),)],
+    "paper": [],
 }
 ERROR = {"form": "BadFormat", "number": "BadNumber", "mode": "BadMode", "exact": "BadExact", "cut": "BadCut", "op": "BadOp",
-         "text": "BadText", "count": "BadCount", "sign": "BadCount"}
+         "text": "BadText", "count": "BadCount", "sign": "BadCount", "five": "BadMode", "numbers": "BadNumber",
+         "chain": "BadChain", "series": "BadFamily", "family": "BadFamily"}
 X, Y, Z = ("number", (0, 3, 1)), ("number", (0, 1, 0)), ("number", (1, 1, 1))
 F, E, C = ("form", FORM), ("exact", (1, 1, 1)), ("cut", (1, 0, 0))
 D = ("cut", (3, 0, 1))
 MODE = {"mode": ("mode", "even")}
+FIVE = {"five": ("five", "even")}
+TEXT = ("text", "6")
+XS, YS = ("numbers", [(0, 1, 0), (0, 3, 0)]), ("numbers", [(1, 1, 1), (0, 0, 0)])
+CHAIN, FINER = ("chain", ((FORM, "up"),)), ("chain", (((3, -1, 1), "up"), (FORM, "up")))
+SERIES, FAMILY = ("series", (1, 1, 1, 1, 2)), ("family", ((1, 1, 1, 1, 2), (0, 1, 3, 1, 1)))
+PAPER = ("paper", [1])
+
+
+def counts(*told):
+    return [("count", value) for value in told]
+
+
+RESIDUES = counts(3, 1, 5, 1, 2, 0, 9)
 
 
 def step(*numbers):
@@ -73,6 +102,34 @@ CALLS = [
     (stations.deed, [("op", "muladd"), F, X, Y, Z], MODE), (stations.deed, [("op", "size"), F, X], MODE),
     (stations.Station, [F], MODE),
     (seats.Grid, [F], {"low_seat": ("count", 0), "high_seat": ("count", 1)}),
+    (decread.read_decimal, [TEXT], {}), (decread.read, [F, TEXT], MODE), (decwrite.exact_text, [X], {}),
+    (decwrite.figures_text, [X, ("count", 2)], FIVE), (decwrite.fixed_text, [X, ("count", 1)], FIVE),
+    (shortest.shortest, [F, X], FIVE), (shortest.reads_back, [F, TEXT, X], FIVE), (shortest.figures_of, [TEXT], {}),
+    (longsum.sum_of, [F, XS], MODE), (longsum.dot, [F, XS, YS], MODE),
+    (plans.left_plan, counts(3), {}), (plans.all_plans, counts(3), {}), (plans.answers, [F, XS], MODE),
+    (plans.order_question, [F] + counts(3, 1, 0), MODE),
+    (splits.fast_two, *step(X, Y)), (splits.six_two, *step(X, Y)), (splits.two_product, *step(X, Y)),
+    (splits.sum_pass, *step(XS)), (splits.distill, *step(XS)), (splits.rest_of, [("op", "add"), F, X, Y], MODE),
+    (splits.split_question, [("op", "mul"), F], MODE),
+    (chains.check_chain, [CHAIN], {}), (chains.fair, [CHAIN], {}), (chains.mirror_chain, [CHAIN], {}),
+    (chains.run_chain, [CHAIN, E], {}), (chains.pulled_cut, [CHAIN, ("count", 1)], {}),
+    (chains.passes, [CHAIN, ("count", 1), E], {}),
+    (gaps.low_gap, [CHAIN, FINER], {}), (gaps.gaps_at, [CHAIN, FINER, ("count", 1)], {}), (gaps.last_gaps, [CHAIN, FINER], {}),
+    (gaps.gap_empty, [C, D], {}), (gaps.gap_of, [CHAIN, FINER, E], {}), (gaps.house_question, [CHAIN, FINER], {}),
+    (table.table_holds, [F, ("five", "up"), F, ("mode", "up")], {}),
+    (table.table_question, [F, ("five", "up"), F, ("mode", "up")], {}),
+    (floorsums.floor_sum, counts(6, 5, 3, 1), {}), (floorsums.floor_rows, counts(6, 5, 3, 1), {}),
+    (floorsums.rows_hold, [PAPER], {}),
+    (residues.count_residues, RESIDUES, {}), (residues.first_residue, RESIDUES, {}), (residues.residue_rows, RESIDUES, {}),
+    (residues.residues_none, [PAPER] + RESIDUES, {}),
+    (residues.round_parts, [("mode", "even")] + counts(1, 1, 1, 1, 1), {}),
+    (residues.round_sum, [("mode", "even")] + counts(1, 1, 1, 1, 1), {}),
+    (families.check_series, [SERIES], {}), (families.check_family, [FAMILY], {}), (families.family_size, [FAMILY], {}),
+    (families.member, [SERIES, ("count", 1)], {}), (families.first_from, [SERIES] + counts(1, 1), {}),
+    (families.numbers_family, [F] + counts(1, 1), {}), (families.times, [FAMILY] + counts(1, 1), {}),
+    (families.shifted, [FAMILY] + counts(1, 1), {}), (families.texts_family, counts(1, 1, 1), {}),
+    (through.pieces, [CHAIN, FINER, FAMILY], {}), (through.count_through, [CHAIN, FINER, FAMILY], {}),
+    (through.through_question, [CHAIN, FINER, FAMILY], {}), (through.through_paper_holds, [CHAIN, FINER, FAMILY, PAPER], {}),
 ]
 
 
@@ -82,8 +139,8 @@ def wrong_values(call, kind):
 
 
 def slots(positions, named):
-    """The places of all arguments in the order of the signature."""
-    return list(range(len(positions))) + list(named)
+    """The places of all arguments that can be wrong, in the order of the signature."""
+    return [at for at, (kind, _) in enumerate(positions) if kind != "paper"] + list(named)
 
 
 def told(result):
@@ -108,7 +165,7 @@ class TestSignatures(unittest.TestCase):
             only_named = [p.name for p in parameters if p.kind == p.KEYWORD_ONLY]
             self.assertEqual(only_named, list(named), call)
             for p in parameters:
-                if p.name == "mode" and p.kind == p.KEYWORD_ONLY:
+                if p.name in ("mode", "five") and p.kind == p.KEYWORD_ONLY:
                     self.assertEqual(p.default, "even")
 
     def test_every_function_is_defined_in_its_file(self):
@@ -190,6 +247,8 @@ class TestTrueForOne(unittest.TestCase):
             return [bool(value)]
         if type(value) is tuple:
             return [value[:at] + (part,) + value[at + 1:] for at, old in enumerate(value) for part in self.swapped(old)]
+        if type(value) is list:
+            return [list(told) for told in self.swapped(tuple(value))]
         return []
 
     def test_between_equal_right_calls(self):
@@ -197,6 +256,8 @@ class TestTrueForOne(unittest.TestCase):
             values_told = {**dict(enumerate(positions)), **named}
             right = told(run(call, positions, named, {}))
             for slot, (kind, value) in values_told.items():
+                if kind == "paper":
+                    continue
                 for wrong in self.swapped(value):
                     with self.assertRaises(getattr(errors, ERROR[kind])) as caught:
                         run(call, positions, named, {slot: wrong})
