@@ -168,6 +168,14 @@ class TestStatements(unittest.TestCase):
                 if isinstance(node, (ast.BinOp, ast.AugAssign)):
                     self.assertNotIsInstance(node.op, (ast.Div, ast.Pow, ast.MatMult), where)
 
+    def test_l23_ranges_and_their_kin_are_iterated_at_once(self):
+        kin = {"range", "zip", "enumerate", "reversed", "map", "iter"}
+        for name, tree in TREES.items():
+            for node in ast.walk(tree):
+                if isinstance(node, (ast.Assign, ast.Return)) and isinstance(node.value, ast.Call):
+                    if isinstance(node.value.func, ast.Name) and node.value.func.id in kin:
+                        self.assertEqual(ast.unparse(node.value)[:5], "iter(", (name, node.lineno))
+
     def test_l20_is(self):
         for name, tree in TREES.items():
             for node in ast.walk(tree):
