@@ -41,10 +41,8 @@ def in_units(n, d, k):
 
 def decimal_power(n, d):
     """The t with 10^t <= n/d < 10^(t+1), for n above zero."""
-    # A guess from the binary digits, never more than a few away.
-    t = power_of((n, d, 1)) * 30103 // 100000
-    while n * ten_to(max(-t, 0)) < d * ten_to(max(t, 0)):
-        t = t - 1
+    # The binary digits tell it but for a little; the guess is never above.
+    t = power_of((n, d, 1)) * 30103 // 100000 - 1
     while n * ten_to(max(-t - 1, 0)) >= d * ten_to(max(t + 1, 0)):
         t = t + 1
     return t

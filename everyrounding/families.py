@@ -95,15 +95,15 @@ def unit_series(unit, base, low, high):
 
 def rank_series(form, i, j):
     """The series of the numbers of ranks i..j, one for each unit power; refuse too many of these."""
-    p, lo, _ = form
+    p = form[0]
     low_m, low_unit = units_of_rank(form, i)
     high_m, high_unit = units_of_rank(form, j)
     if high_unit - low_unit >= MOST_SERIES:
         raise TooMany(MOST_SERIES)
     found = []
     for unit in range(low_unit, high_unit + 1):
-        least_m = 1 if unit == lo else 1 << (p - 1)
-        low = low_m if unit == low_unit else least_m
+        # Only the first unit can be that of the numbers with fewer digits.
+        low = low_m if unit == low_unit else 1 << (p - 1)
         high = high_m if unit == high_unit else (1 << p) - 1
         found.append(unit_series(unit, 2, low, high))
     return found

@@ -123,13 +123,11 @@ def span_of_cuts(cuts):
 
 
 def joined_gaps(gaps):
-    """The gaps that are not empty, ascending; two that touch are one."""
+    """Those of one or two ascending gaps that are not empty; two that touch are one."""
     full = [gap for gap in gaps if is_less(gap[0], gap[1])]
     if len(full) < 2:
         return full
     one, two = full
-    if is_less(two[0], one[0]):
-        one, two = two, one
     if is_less(one[1], two[0]):
         return [one, two]
     return [(one[0], greater_cut(one[1], two[1]))]

@@ -134,10 +134,12 @@ class TestRowsHold(unittest.TestCase):
         self.assertIs(rows_hold([(3, 3, 5, 6, 10), next_row(3, 3, 5, 6)]), True)
 
     def test_no_row_behind_a_y_of_zero(self):
-        for row in [(4, 5, 0, 1, 0), (9, 5, 5, 1, 36), (0, 3, 1, 1, 0), (2, 9, 1, 1, 0)]:
+        for row in [(4, 5, 0, 1, 0), (9, 5, 5, 1, 36), (0, 3, 1, 1, 0), (2, 9, 1, 1, 0), (5, 9, 1, 1, 0), (1, 7, 10, -4, -1)]:
             self.assertIs(rows_hold([row]), True)
             for after in [(0, 1, 5, 3, 0), (0, 5, 5, 3, 0), (1, 1, 1, 1, 1), (0, 1, 1, 0, 0)]:
                 self.assertIs(rows_hold([row, after]), False)
+            if row[2] % row[1] > 0:
+                self.assertIs(rows_hold([row, next_row(*row[:4])]), False)
 
     def test_bent_rows(self):
         for rows in self.papers():

@@ -197,10 +197,10 @@ class TestOrderQuestion(unittest.TestCase):
                     self.assertIs(holds, self.all_alike(form, N, K, u, mode), (form, N, K, u, mode))
 
     def test_bound(self):
-        for form in [(2, 0, 2), (5, -3, -2), (24, -149, 104), (140, -600, 600), (140, 599, 600)]:
+        for form in [(2, 0, 2), (3, 0, 1), (5, -3, -2), (24, -149, 104), (140, -600, 600), (140, 599, 600)]:
             p, lo, hi = form
-            for N in (3, 5, 9, 40):
-                for K in {1, (1 << p) // (N - 1), (1 << p) // (N - 1) + 1, (1 << p) - 1, 1 << p}:
+            for N in (3, 4, 5, 9, 12, 40):
+                for K in {1, 3, (1 << p) // (N - 1), (1 << p) // (N - 1) + 1, (1 << p) - 1, 1 << p}:
                     if K < 1:
                         continue
                     for u in {lo, hi - 1}:

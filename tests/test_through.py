@@ -171,6 +171,12 @@ class TestTold(unittest.TestCase):
             told = through_question(chain, chain2, family)
             self.assertEqual(told, ("fails", 0, walked(chain, chain2, family)[0][1]))
         self.assertEqual(through_question(chain, chain2, ((0, 1, 8, 21, 31), (0, 1, 8, 1, 9))), ("fails", 0, 21))
+        # With three digits the two gaps take turns twice in a power: the second one's member can be the first.
+        chain, chain2 = (((3, 0, 2), "zero"),), (((3, 0, 2), "up"),)
+        for d in (2, 8):
+            for a in range(8 * d, 16 * d):
+                family = ((0, 1, d, a, 16 * d),)
+                self.assertEqual(through_question(chain, chain2, family), ("fails", 0, walked(chain, chain2, family)[0][1]))
         self.assertEqual(through_question(chain, chain2, ((0, 1, 1, 1, 4), (0, 1, 8, 8, 8), (0, 1, 8, 30, 40))), ("fails", 2, 30))
 
     def test_members_occur_more_than_once(self):
