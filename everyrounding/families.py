@@ -93,28 +93,43 @@ def unit_series(unit, base, low, high):
     return (0, size, 1, low, high)
 
 
-def rank_series(form, i, j):
-    """The series of the numbers of ranks i..j, one for each unit power; refuse too many of these."""
+def check_ranks(form, i, j):
+    """Refuse what is no range of ranks of positive finite numbers."""
+    n = count_of(form)
+    check_count(i, 1, n)
+    check_count(j, i, n)
+
+
+def units_apart(form, i, j):
+    """How far the unit powers of two ranks are apart."""
+    return units_of_rank(form, j)[1] - units_of_rank(form, i)[1]
+
+
+def unit_ranges(form, i, j):
+    """For each unit power q of the ranks i..j, ascending: q, and the first and the last m of their numbers m * 2^q."""
     p = form[0]
     low_m, low_unit = units_of_rank(form, i)
     high_m, high_unit = units_of_rank(form, j)
-    if high_unit - low_unit >= MOST_SERIES:
-        raise TooMany(MOST_SERIES)
     found = []
     for unit in range(low_unit, high_unit + 1):
         # Only the first unit can be that of the numbers with fewer digits.
         low = low_m if unit == low_unit else 1 << (p - 1)
         high = high_m if unit == high_unit else (1 << p) - 1
-        found.append(unit_series(unit, 2, low, high))
+        found.append((unit, low, high))
     return found
+
+
+def rank_series(form, i, j):
+    """The series of the numbers of ranks i..j, one for each unit power; refuse too many of these."""
+    if units_apart(form, i, j) >= MOST_SERIES:
+        raise TooMany(MOST_SERIES)
+    return [unit_series(unit, 2, low, high) for unit, low, high in unit_ranges(form, i, j)]
 
 
 def numbers_family(form, i, j):
     """The family of the numbers of ranks i..j of the format."""
     check_format(form)
-    n = count_of(form)
-    check_count(i, 1, n)
-    check_count(j, i, n)
+    check_ranks(form, i, j)
     return tuple(rank_series(form, i, j))
 
 

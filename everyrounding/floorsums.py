@@ -3,7 +3,6 @@
 from everyrounding.checks import are_integers, check_any_count, check_count
 
 MOST_TERMS = (1 << 200) - 1
-MOST_MODULUS = (1 << 9000) - 1
 SHORT = 4
 
 
@@ -82,10 +81,16 @@ def is_right_end(row):
     return next_asked(N, M, A, B) is None and total == end_sum(N, M, A, B)
 
 
+def check_modulus(M):
+    """Refuse what is no integer from 1 to below 2^9000."""
+    check_any_count(M)
+    check_count(M, 1, None)
+
+
 def check_asked(N, M, A, B):
     """Refuse the first wrong argument of a floor sum."""
     check_count(N, 0, MOST_TERMS)
-    check_count(M, 1, MOST_MODULUS)
+    check_modulus(M)
     check_any_count(A)
     check_any_count(B)
 

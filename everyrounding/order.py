@@ -86,13 +86,18 @@ def check_valued_fits(form, x):
         raise BadNumber()
 
 
+def is_difference_exact(form, x, y):
+    """True if x - y of two zeros or finite numbers is zero or, with either sign, a number of the format."""
+    m, unit = dyadic_sum(signed_part(x), x[2], -signed_part(y), y[2])
+    return holds_or_zero(form, m, unit)
+
+
 def difference_exact(form, x, y):
     """True if x - y is zero or, with either sign, a number of the format."""
     check_format(form)
     check_valued_fits(form, x)
     check_valued_fits(form, y)
-    m, unit = dyadic_sum(signed_part(x), x[2], -signed_part(y), y[2])
-    return holds_or_zero(form, m, unit)
+    return is_difference_exact(form, x, y)
 
 
 def bound_parts(form):
@@ -115,14 +120,19 @@ def ratio_bound(form):
     return (n, d)
 
 
-def difference_question(form, n, d):
-    """Whether x - y fits the format for all its x >= y > 0 with x <= (n/d) * y."""
+def check_difference(form, n, d):
+    """Refuse the first wrong argument, then a quotient below 1."""
     check_format(form)
     high = (1 << 600) - 1
     check_count(n, 1, high)
     check_count(d, 1, high)
     if n < d:
         raise NotAsked()
+
+
+def difference_question(form, n, d):
+    """Whether x - y fits the format for all its x >= y > 0 with x <= (n/d) * y."""
+    check_difference(form, n, d)
     parts = bound_parts(form)
     if parts is None or n * parts[1] < parts[0] * d:
         return ("holds",)

@@ -124,7 +124,7 @@ def answers(form, xs, *, mode="even"):
         if is_zero(x):
             x = (0, 0, 0)
         found[seat_of(form, x)] = x
-    return [found[seat] for seat in sorted(found)]
+    return [found[seat] for seat in sorted(list(found))]
 
 
 def order_witness(form, N, K, u):
@@ -139,8 +139,8 @@ def order_witness(form, N, K, u):
     return ("fails", xs, left_of(list(range(N))), (left_of(list(range(1, N))), 0))
 
 
-def order_question(form, N, K, u, *, mode="even"):
-    """Whether all plans give alike results for all N numbers k * 2^u with integers k of size at most K."""
+def check_orders(form, N, K, u, mode):
+    """Refuse the first wrong argument, then numbers about which nothing is claimed."""
     check_format(form)
     check_any_count(N)
     check_any_count(K)
@@ -149,6 +149,11 @@ def order_question(form, N, K, u, *, mode="even"):
     p, lo, hi = form
     if N < 3 or N > 40 or K < 1 or K > 1 << p or u < lo or u >= hi:
         raise NotAsked()
-    if (N - 1) * K <= 1 << p:
+
+
+def order_question(form, N, K, u, *, mode="even"):
+    """Whether all plans give alike results for all N numbers k * 2^u with integers k of size at most K."""
+    check_orders(form, N, K, u, mode)
+    if (N - 1) * K <= 1 << form[0]:
         return ("holds",)
     return order_witness(form, N, K, u)

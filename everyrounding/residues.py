@@ -2,7 +2,7 @@
 
 from everyrounding.checks import check_any_count, check_count
 from everyrounding.errors import BadCount
-from everyrounding.floorsums import MOST_MODULUS, rows_hold, sum_of_floors, told_rows
+from everyrounding.floorsums import check_modulus, rows_hold, sum_of_floors, told_rows
 from everyrounding.rounding import check_mode
 
 MOST_MEMBERS = 1 << 199
@@ -18,7 +18,7 @@ def check_residues(A, B, M, l, r, a, b):
     """Refuse the first wrong argument of a residue count."""
     check_any_count(A)
     check_any_count(B)
-    check_count(M, 1, MOST_MODULUS)
+    check_modulus(M)
     check_count(l, 0, M)
     check_count(r, l, M)
     check_range(a, b)

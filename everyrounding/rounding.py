@@ -28,6 +28,13 @@ def check_five(five):
         raise BadMode()
 
 
+def check_near(near):
+    """Refuse what is neither of the two modes that round to the nearest."""
+    check_mode(near)
+    if near != "even" and near != "away":
+        raise BadMode()
+
+
 def mirrored(mode):
     """The mode that rounds minus z as this one rounds z."""
     if mode == "up":

@@ -174,13 +174,18 @@ def split_witness(op, form, mode):
     return ("fails", signed(0, half, hi), (0, 1, lo))
 
 
-def split_question(op, form, *, mode="even"):
-    """Whether for all numbers of the format the exact rest of the operation fits it."""
+def check_split(op, form, mode):
+    """Refuse the first wrong argument, then a division about which nothing is claimed."""
     check_op_of(op, SPLIT_OPS)
     check_format(form)
     check_mode(mode)
     if op == "div" and (mode == "up" or mode == "down" or mode == "odd" or form[2] + form[0] < 1):
         raise NotAsked()
+
+
+def split_question(op, form, *, mode="even"):
+    """Whether for all numbers of the format the exact rest of the operation fits it."""
+    check_split(op, form, mode)
     if split_holds(op, form, mode):
         return ("holds",)
     return split_witness(op, form, mode)

@@ -1,6 +1,8 @@
 """Slow and plain answers for small formats, made from the definitions by fractions, and helpers for the tests."""
 
+from bisect import bisect_right
 from fractions import Fraction
+from functools import lru_cache
 
 from everyrounding.errors import Refused
 
@@ -61,6 +63,12 @@ def all_numbers(form):
     return [MINUS_INF] + finite_numbers(form) + [INF, NAN]
 
 
+@lru_cache(maxsize=None)
+def sizes_of(form):
+    """Zero, the positive finite numbers and over."""
+    return [Fraction(0)] + positives(form) + [two(form[2] + form[0])]
+
+
 def square_or_self(value, k):
     return value if k == 1 else value * value
 
@@ -87,10 +95,10 @@ def slow_round(form, exact, mode, s=0):
         return ((s, 0, 0), ())
     sign = 1 if n < 0 else 0
     size = Fraction(abs(n), d)
-    sizes = [Fraction(0)] + positives(form) + [two(form[2] + form[0])]
+    sizes = sizes_of(form)
     over, line = sizes[-1], two(form[1] + form[0] - 1)
     beyond = size >= square_or_self(over, k)
-    rank = max(i for i, v in enumerate(sizes) if square_or_self(v, k) <= size)
+    rank = bisect_right(sizes, size, key=lambda v: square_or_self(v, k)) - 1
     if not beyond and square_or_self(sizes[rank], k) != size:
         mid = square_or_self((sizes[rank] + sizes[rank + 1]) / 2, k)
         above_half = (size > mid) - (size < mid)
@@ -124,7 +132,7 @@ def refusal(call, *args, **named):
 def assert_refused(case, error, call, *args, **named):
     """Assert that the call raises this error and no other class."""
     told = refusal(call, *args, **named)
-    case.assertIs(type(told), error, (call.__name__, args, named))
+    case.assertIs(type(told), error, (getattr(call, "__name__", call), args, named))
     return told
 
 

@@ -16,7 +16,7 @@ METHODS = {"append", "clear", "copy", "count", "endswith", "extend", "find", "ge
            "pop", "remove", "replace", "reverse", "rfind", "rjust", "rpartition", "rsplit", "rstrip", "setdefault", "split",
            "splitlines", "startswith", "strip", "update", "upper", "values", "zfill", "bit_length", "sort"}
 STATEMENTS = (ast.Assign, ast.AugAssign, ast.If, ast.While, ast.For, ast.Return, ast.Break, ast.Continue, ast.Pass,
-              ast.Raise, ast.Assert, ast.Delete, ast.Expr, ast.FunctionDef, ast.ClassDef, ast.ImportFrom)
+              ast.Raise, ast.Assert, ast.Delete, ast.Expr, ast.FunctionDef, ast.ClassDef, ast.ImportFrom, ast.Try)
 DUNDERS = {"__init__", "__eq__", "__repr__", "__str__", "__len__", "__call__", "__iter__", "__contains__", "__neg__",
            "__add__", "__sub__", "__mul__"}
 LIBRARY = {"math": {"gcd", "lcm", "isqrt", "comb"}, "heapq": {"heappush", "heappop"}}
@@ -109,6 +109,53 @@ class TestTop(unittest.TestCase):
                     self.assertIsInstance(node, (ast.FunctionDef, ast.ClassDef, ast.ImportFrom))
             names = defined(tree) + imported(tree)
             self.assertEqual(len(names), len(set(names)), name)
+
+    def test_l3_shifts_at_the_top(self):
+        for name, tree in TREES.items():
+            for top in tree.body:
+                for node in ast.walk(top) if isinstance(top, ast.Assign) else []:
+                    if isinstance(node, ast.BinOp) and isinstance(node.op, (ast.LShift, ast.RShift)):
+                        self.assertTrue(isinstance(node.right, ast.Constant) and 0 <= node.right.value <= 3000, (name, node.lineno))
+
+    def test_l3_l15_tables_hold_tuples_and_functions_of_the_file(self):
+        for name, tree in TREES.items():
+            above = set()
+            for top in tree.body:
+                if isinstance(top, ast.FunctionDef):
+                    above.add(top.name)
+                if not isinstance(top, ast.Assign):
+                    continue
+                if isinstance(top.value, (ast.Dict, ast.List)):
+                    inner = [node for node in ast.walk(top.value) if isinstance(node, (ast.Dict, ast.List))]
+                    self.assertEqual(len(inner), 1, (name, top.lineno))
+                read = {node.id for node in ast.walk(top.value) if isinstance(node, ast.Name)}
+                self.assertLessEqual(read, above | {told.targets[0].id for told in tree.body if isinstance(told, ast.Assign)})
+
+
+class TestCalls(unittest.TestCase):
+    def test_l7_stars_stand_before_names(self):
+        for name, tree in TREES.items():
+            for node in ast.walk(tree):
+                if isinstance(node, ast.Starred):
+                    self.assertIsInstance(node.value, ast.Name, (name, node.lineno))
+                if isinstance(node, ast.Call):
+                    self.assertTrue(all(told.arg is not None for told in node.keywords), (name, node.lineno))
+
+    def test_l2_library_is_called_by_its_bare_name(self):
+        known = {told for names in LIBRARY.values() for told in names}
+        for name, tree in TREES.items():
+            called = {id(node.func) for node in ast.walk(tree) if isinstance(node, ast.Call) and not node.keywords
+                      and not any(isinstance(told, ast.Starred) for told in node.args)}
+            for node in ast.walk(tree):
+                if isinstance(node, ast.Name) and node.id in known:
+                    self.assertIn(id(node), called, (name, node.lineno))
+
+    def test_l19_only_own_errors_are_caught(self):
+        for name, tree in TREES.items():
+            for node in ast.walk(tree):
+                if isinstance(node, ast.Try):
+                    self.assertEqual(node.finalbody + node.orelse, [], (name, node.lineno))
+                    self.assertEqual([ast.unparse(told.type) for told in node.handlers], ["Refused"], (name, node.lineno))
 
 
 class TestNames(unittest.TestCase):

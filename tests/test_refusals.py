@@ -1,16 +1,19 @@
 """Points [2], [3] and [4] for every function: each wrong kind of argument, and which of several errors goes first."""
 
+import copy
 import inspect
 import unittest
 from itertools import combinations
 
-from everyrounding import chains, cuts, decread, decwrite, errors, families, floorsums, formats, gaps, longsum, order
-from everyrounding import places, plans, products, residues, rests, rounding, seats, shortest, splits, stations, sums
-from everyrounding import table, through, values
+from everyrounding import agree, asks, chains, cuts, decread, decwrite, doors, errors, families, floorsums, formats, gaps, judges, longsum
+from everyrounding import order, places, plans, polys, products, programs, ranges, residues, rests, rounding, script, seats, shortest
+from everyrounding import spandeeds, spanpapers, spans, splits, standins, stations, sums, table, through, trips, values
 from everyrounding.errors import Refused, TooMany
 from tests.oracle import assert_refused
 
 FORM = (2, 0, 1)
+SPAN = ((0, 1, 0), (0, 1, 1))
+STEP = ("add", (0, 0), FORM, "even")
 JUNK = [None, True, False, "x?", [], [1], (), (1,), ((0, 1, 0),), [(2, 0, 1)], (None, None, None), "\"", ("a", "b", "c")]
 TRIPLES = [[1, 1, 1], (1, 1), (1, 1, 1, 1), (True, True, True), (False, False, False), ("1", 1, 1), (1, [1], 1)]
 WRONG = {
@@ -42,21 +45,44 @@ WRONG = {
                       (1 << 3000, 1, 1, 1, 2), (1, 1 << 3000, 1, 1, 2), (1, 1, 1 << 3000, 1, 2), (1, 1, 1, 1, 1 << 140)],
     "family": JUNK + [0, [(1, 1, 1, 1, 2)], (1, 1, 1, 1, 2), ((1, 1, 1, 1, 2),) * 65, ((1, 1, 1, 1, 2), None),
                       ((1, 1, 1, 2, 1),), ([1, 1, 1, 1, 2],), ((1, True, 1, 1, 2),), ((1, 1, 1, 1, True),)],
+    "near": [None, True, 0, "", "odd", "zero", "up", "down", "Even", ["even"], ("even",)],
+    "span": [value for value in JUNK if value != ((0, 1, 0),)] + [0, ((0, 1, 0),), [(0, 1, 0), (0, 1, 1)], ((0, 1, 1), (0, 1, 0)), ((1, 0, 0), (0, 1, 0)),
+                    ((0, 1, 0), (1, 0, 0)), ((0, 1, 0), (0, -2, 0)), ((0, -1, 0), (0, -1, 0)), ((0, 2, 0), (0, 2, 0)), ((0, 1, 0), (0, True, 0)),
+                    ((False, 1, 0), (0, 1, 0)), ((0, 1, 0),) * 3],
+    "spans": [None, True, 0, "x", (), (SPAN,), SPAN, [None], [SPAN, None], [SPAN] * 65, [((0, 1, 1), (0, 1, 0))], [[(0, 1, 0), (0, 1, 1)]],
+              [((1, 0, 0), (0, 1, 0))], [SPAN, ((0, 1, 0), (0, True, 0))], [SPAN] * 4, []],
+    "program": JUNK + [0, [1, (), ()], (0, (), (STEP,)), (5, (), (STEP,)), (1, [], (STEP,)), (1, (), [STEP]), (1, (), ()), (1, ((0, -1, 0),), (STEP,)),
+                       (1, (), (STEP,) * 13), (True, (), (STEP,)), (1, (), (("add", (0, 1), FORM, "even"),)), (1, (), (("add", (0, -1), FORM, "even"),)),
+                       (1, (), (("add", (0, False), FORM, "even"),)), (1, (), (("rest", (0, 0), FORM, "even"),)), (1, ((False, 0, 0),), (STEP,)),
+                       (1, (), (STEP, ("add", (0, 0), FORM, "x")))],
+    "box": JUNK + [0, [(FORM, 1, 2)], (FORM, 1, 2), ((FORM, 2, 1),), ((FORM, 0, 6),), ((FORM, -7, 0),), ((FORM, True, 2),), ((FORM, 0, True),),
+                   ([FORM, 0, 1],), ((None, 0, 1),), ((FORM, 0, 1),) * 5, (((2, False, 1), 0, 1),), (((53, 0, 50), 1, (1 << 40) + 1),)],
+    "seats": [None, True, 0, "1", (), (1,), (1, 1, 1), [1, 1], (1, True), (1, None), (0, 1), (1, 3), (1, "1")],
+    "question": JUNK + [0, "table", ("table",), ["table", FORM, "even", FORM, "even"], ("Table", FORM, "even", FORM, "even"),
+                        ("table", FORM, "even", FORM), ("table", FORM, "even", FORM, "even", 1), ("house", ()), (True, FORM, "even", FORM, "even")],
+    "lines": [None, True, 0, "x", (), ("x",), [None], ["x", 1], ["x" * 701]],
     "paper": [],
 }
 ERROR = {"form": "BadFormat", "number": "BadNumber", "mode": "BadMode", "exact": "BadExact", "cut": "BadCut", "op": "BadOp",
          "text": "BadText", "count": "BadCount", "sign": "BadCount", "five": "BadMode", "numbers": "BadNumber",
-         "chain": "BadChain", "series": "BadFamily", "family": "BadFamily"}
+         "chain": "BadChain", "series": "BadFamily", "family": "BadFamily", "near": "BadMode", "span": "BadSpan", "spans": "BadSpan",
+         "program": "BadProgram", "box": "BadBox", "seats": "BadBox", "question": "NotAsked", "lines": "BadText"}
 X, Y, Z = ("number", (0, 3, 1)), ("number", (0, 1, 0)), ("number", (1, 1, 1))
 F, E, C = ("form", FORM), ("exact", (1, 1, 1)), ("cut", (1, 0, 0))
 D = ("cut", (3, 0, 1))
 MODE = {"mode": ("mode", "even")}
+FIVE_EVEN = ("five", "even")
 FIVE = {"five": ("five", "even")}
 TEXT = ("text", "6")
 XS, YS = ("numbers", [(0, 1, 0), (0, 3, 0)]), ("numbers", [(1, 1, 1), (0, 0, 0)])
 CHAIN, FINER = ("chain", ((FORM, "up"),)), ("chain", (((3, -1, 1), "up"), (FORM, "up")))
 SERIES, FAMILY = ("series", (1, 1, 1, 1, 2)), ("family", ((1, 1, 1, 1, 2), (0, 1, 3, 1, 1)))
 PAPER = ("paper", [1])
+NEAR, S, STEPS = ("near", "even"), ("span", SPAN), ("program", (2, (), (("add", (0, 1), FORM, "up"), ("mul", (1, 2), FORM, "even"))))
+ONE_STEP = ("program", (1, ((1, 0, 0),), (STEP,)))
+BOX, ONE_BOX = ("box", ((FORM, 1, 2), (FORM, 0, 1))), ("box", ((FORM, -1, 1),))
+QUESTION = ("question", ("door", "add", "even", 3, 4))
+TRIP = {"writer": FIVE_EVEN, "reader": FIVE_EVEN}
 
 
 def counts(*told):
@@ -130,7 +156,37 @@ CALLS = [
     (families.shifted, [FAMILY] + counts(1, 1), {}), (families.texts_family, counts(1, 1, 1), {}),
     (through.pieces, [CHAIN, FINER, FAMILY], {}), (through.count_through, [CHAIN, FINER, FAMILY], {}),
     (through.through_question, [CHAIN, FINER, FAMILY], {}), (through.through_paper_holds, [CHAIN, FINER, FAMILY, PAPER], {}),
+    (standins.rank_parts, [F, SERIES], MODE), (standins.rank_sum, [F, SERIES], MODE), (standins.standin_total, [F, SERIES, SERIES], MODE),
+    (standins.standin_question, [F, SERIES, SERIES], MODE), (standins.standin_paper_holds, [F, SERIES, SERIES, PAPER], MODE),
+    (standins.division_pair, [F, ("count", 2), ("form", (2, -4, 1))] + counts(1, 5), MODE),
+    (doors.threshold, [("op", "add"), ("count", 3)], {}), (doors.door_holds, [("op", "mul"), NEAR] + counts(4, 5), {}),
+    (doors.door_question, [("op", "root"), NEAR] + counts(4, 5), {}), (doors.room, [("op", "add"), NEAR, ("form", (2, -3, 3))], {}),
+    (doors.both_ways, [("op", "add"), F, F, X, Y], MODE), (doors.sumdoor_holds, [F, F, FIVE_EVEN], {}),
+    (doors.sumdoor_question, [F, ("form", (3, 0, 1)), FIVE_EVEN], {}),
+    (trips.trip, [F, ("count", 1), X], TRIP), (trips.trip_pieces, [F] + counts(2, 1, 5), TRIP), (trips.trip_count, [F] + counts(1, 1, 5), TRIP),
+    (trips.trip_question, [F] + counts(2, 1, 5), TRIP), (trips.trip_paper_holds, [F] + counts(2, 1, 5) + [PAPER], TRIP),
+    (trips.enough_figures, counts(2), {}), (trips.least_figures, [F] + counts(1, 5), {"near": NEAR, "near2": ("near", "away")}),
+    (spans.check_span, [S], {}), (spans.span_of, [F, Y, X], {}), (spans.point_span, [F, X], {}), (spans.holds_exact, [S, E], {}),
+    (spans.holds_span, [S, S], {}), (spans.hull, [S, S], {}), (spans.meet, [S, S], {}), (spans.width, [F, S], {}), (spans.halves, [F, S], {}),
+    (spandeeds.span_add, [F, S, S], {}), (spandeeds.span_sub, [F, S, S], {}), (spandeeds.span_mul, [F, S, S], {}), (spandeeds.span_div, [F, S, S], {}),
+    (spandeeds.span_least, [F, S, S], {}), (spandeeds.span_greatest, [F, S, S], {}), (spandeeds.span_muladd, [F, S, S, S], {}),
+    (spandeeds.span_minus, [F, S], {}), (spandeeds.span_size, [F, S], {}), (spandeeds.span_square, [F, S], {}), (spandeeds.span_convert, [F, S], {}),
+    (spandeeds.span_root, [F, S], {}), (spandeeds.span_text, [F, TEXT], {}), (spandeeds.span_sum, [F, ("some spans", [SPAN, SPAN])], {}),
+    (polys.Poly.variable, counts(2, 1), {}),
+    (programs.check_program, [STEPS], {}), (programs.run_program, [STEPS, XS], {}), (programs.exact_program, [STEPS, XS], {}),
+    (programs.polynomial, [STEPS], {}),
+    (spanpapers.step_span, [("op", "add"), F, ("spans", [SPAN, SPAN])], {}), (spanpapers.run_spans, [STEPS, ("spans", [SPAN, SPAN])], {}),
+    (spanpapers.spans_paper_holds, [STEPS, ("spans", [SPAN, SPAN]), PAPER], {}), (spanpapers.pieces_hull, [STEPS, F, ("spans", [SPAN, SPAN]), ("count", 2)], {}),
+    (ranges.check_box, [BOX], {}), (ranges.points, [BOX], {}), (ranges.point_numbers, [BOX, ("seats", (1, 1))], {}),
+    (ranges.ranges, [STEPS, BOX], {}), (ranges.grids, [ONE_STEP, ONE_BOX], {}),
+    (agree.agree, [STEPS, STEPS, BOX, ("count", 9)], {}), (agree.within, [ONE_STEP, ONE_BOX, Z, X, ("count", 9)], {}),
+    (agree.tree_holds, [STEPS, STEPS, BOX, PAPER], {}), (agree.within_holds, [ONE_STEP, ONE_BOX, Z, X, PAPER], {}),
+    (asks.ask, [QUESTION], {}), (asks.check_question, [QUESTION], {}), (judges.judge, [QUESTION, PAPER], {}),
+    (script.run_script, [("lines", ["let x 1p0", "show x"])], {}),
 ]
+# A list of spans that may have any length.
+WRONG["some spans"] = [value for value in WRONG["spans"] if value != [] and value != [SPAN] * 4]
+ERROR["some spans"] = "BadSpan"
 
 
 def wrong_values(call, kind):
@@ -149,6 +205,8 @@ def told(result):
         return (list(result), len(result), result.form, result.low_seat, result.high_seat)
     if isinstance(result, stations.Station):
         return (result.form, result.mode, result.flags, result.many)
+    if isinstance(result, polys.Poly):
+        return (result.variables, list(result))
     return result
 
 
@@ -170,7 +228,7 @@ class TestSignatures(unittest.TestCase):
 
     def test_every_function_is_defined_in_its_file(self):
         for call, _, _ in CALLS:
-            self.assertEqual(getattr(inspect.getmodule(call), call.__name__), call)
+            self.assertEqual(getattr(inspect.getmodule(call), call.__qualname__.split(".")[0]).__module__, inspect.getmodule(call).__name__)
 
     def test_methods_stand_in_the_class_itself(self):
         for name in ("do", "under", "forget", "twin", "form", "mode", "flags", "many"):
@@ -238,6 +296,38 @@ class TestWrongArguments(unittest.TestCase):
         self.assertEqual(Refused.__mro__[1], ValueError)
 
 
+def lists_in(value):
+    """All lists within a value, by their identity."""
+    found = [id(value)] if type(value) is list else []
+    for part in value if type(value) in (list, tuple) else ():
+        found += lists_in(part)
+    return found
+
+
+class TestWholeProgram(unittest.TestCase):
+    """Point [1]: arguments stay as they are, returned lists are new, equal calls give equal results."""
+
+    def test_arguments_results_and_lists(self):
+        for call, positions, named in CALLS:
+            values_told = {**dict(enumerate(value for _, value in positions)), **{name: value for name, (_, value) in named.items()}}
+            kept = copy.deepcopy(values_told)
+            first = run(call, positions, named, {})
+            second = run(call, positions, named, {})
+            self.assertEqual(told(first), told(second))
+            self.assertEqual(values_told, kept, call)
+            passed = [at for value in values_told.values() for at in lists_in(value)]
+            self.assertFalse(set(lists_in(first)) & set(lists_in(second) + passed), call)
+            # A list that was changed afterwards changes no later answer.
+            right = copy.deepcopy(told(first))
+            if type(first) is list:
+                first.append(None)
+            self.assertEqual(told(run(call, positions, named, {})), right)
+
+    def test_every_module_is_called(self):
+        called = {inspect.getmodule(call) for call, _, _ in CALLS}
+        self.assertFalse({agree, asks, doors, judges, polys, programs, ranges, script, spandeeds, spanpapers, spans, standins, trips} - called)
+
+
 class TestTrueForOne(unittest.TestCase):
     """True equals 1 for Python: a memory of earlier answers must not take it for 1."""
 
@@ -256,7 +346,8 @@ class TestTrueForOne(unittest.TestCase):
             values_told = {**dict(enumerate(positions)), **named}
             right = told(run(call, positions, named, {}))
             for slot, (kind, value) in values_told.items():
-                if kind == "paper":
+                # A question of a right shape with a wrong member raises the error of its function.
+                if kind in ("paper", "question"):
                     continue
                 for wrong in self.swapped(value):
                     with self.assertRaises(getattr(errors, ERROR[kind])) as caught:
