@@ -39,7 +39,7 @@ class Agreement:
 
     def is_exact(self, box):
         """True if both programs are exact over the box and the same polynomial."""
-        if self.told is None or self.told2 is None or self.told != self.told2:
+        if self.told is None or self.told != self.told2:
             return False
         return has_grids(self.program, box) and has_grids(self.program2, box)
 

@@ -115,10 +115,15 @@ def power_list(base, most):
     return found
 
 
+def highest_power(terms, at):
+    """The highest power of a variable in the terms, 0 if there are no terms."""
+    return max([0] + [powers[at] for powers, _, _ in terms])
+
+
 def value_of_terms(terms, exacts):
     """Numerator and denominator, in lowest terms, of the value of the terms at these exact numbers."""
     # All terms are brought to one denominator, so that only the whole value has to be reduced.
-    tops = [max([0] + [powers[at] for powers, _, _ in terms]) for at in range(len(exacts))]
+    tops = [highest_power(terms, at) for at in range(len(exacts))]
     over = [power_list(exact[0], top) for exact, top in zip(exacts, tops)]
     under = [power_list(exact[1], top) for exact, top in zip(exacts, tops)]
     common = 1
@@ -166,8 +171,6 @@ class Poly:
     def constant(variables, n, d):
         """The polynomial that is the constant n/d."""
         check_count(variables, 1, MOST_VARIABLES)
-        if not is_coefficient(n, d):
-            raise BadExact()
         return Poly(variables, constant_terms(variables, n, d))
 
     @property

@@ -56,9 +56,7 @@ def end_product(end, end2):
 
 
 def end_quotient(end, end2):
-    """The quotient of an exact end by one other than zero, not both infinite; a finite one by an infinity counts 0."""
-    if end[0] == 0 or end2[1] == 0:
-        return ZERO_END
+    """The quotient of an exact end by one other than zero, not both infinite; a finite one by an infinity is 0."""
     n = end[0] * end2[1]
     d = end[1] * end2[0]
     return lowest(-n, -d, 1) if end2[0] < 0 else lowest(n, d, 1)

@@ -53,7 +53,7 @@ def single_numbers(form, q, low, high):
     if q > lo and low == half:
         singles.append(half)
         low = low + 1
-    if q == hi and high == top and low <= high:
+    if q == hi and high == top:
         singles.append(top)
         high = high - 1
     return (singles, low, high)
@@ -186,7 +186,8 @@ def least_of_pieces(told):
         decades.setdefault(piece[1], []).append(piece)
     # The decades follow one another: the first one with a number that fails has the least of all.
     for t in sorted(list(decades)):
-        failing = [m for m in [piece_first(piece) for piece in decades[t]] if m is not None]
+        firsts = [piece_first(piece) for piece in decades[t]]
+        failing = [m for m in firsts if m is not None]
         if failing:
             return min(failing)
     return None

@@ -126,7 +126,8 @@ class Checker(unittest.TestCase):
         self.assertIs(judge(*args, letters), True)
         for _ in range(3):
             self.assertIs(judge(*args, right_papers(claim, box, picker)), True)
-        for wrong in ["", letters + "S", letters + "P", letters[:-1], letters[1:], "C" + letters, letters.lower(), letters + " ", letters + "\n", "?"]:
+        for wrong in ["", letters + "S", letters + "P", letters[:-1], letters[1:], "C" + letters, letters.lower(), letters + " ",
+                    letters + "\n", "?"]:
             if wrong != letters and not (wrong == "" and letters == ""):
                 self.assertIs(judge(*args, wrong), False, (args, wrong))
         for at in range(len(letters)):
@@ -207,6 +208,22 @@ class TestAgreement(Checker):
         for wrong in ("X", "S", "CXX", "CSS", "CPX"):
             self.assertIs(tree_holds(nan, nan, ((TINY, 1, 2),), wrong), False)
 
+    def test_x_needs_polynomials(self):
+        # size and root of a square have grids or not, but no polynomials, so not even a program and itself are X.
+        sized = (1, (), steps(("size", 0), form=(9, -6, 4)))
+        self.assertEqual(grids(sized, ((TINY, 1, 2),)), [(0, (2, 1, 1))])
+        self.assertEqual(agree(sized, sized, ((TINY, 1, 2),), 9), ("holds", "CSS"))
+        plain = (1, (), steps(("convert", 0), form=(9, -6, 4)))
+        for pair in [(sized, plain), (plain, sized)]:
+            self.assertEqual(agree(*pair, ((TINY, 1, 2),), 9), ("holds", "CSS"))
+            self.assertIs(tree_holds(*pair, ((TINY, 1, 2),), "X"), False)
+        self.assertEqual(agree(plain, plain, ((TINY, 1, 2),), 9), ("holds", "X"))
+        self.assertIs(tree_holds(sized, sized, ((TINY, 1, 2),), "X"), False)
+        # A step without a grid that the last one does not use, on one side alone.
+        lost = (1, (), steps(("mul", 0, 0), form=TINY) + plain[2])
+        self.assertEqual(agree(lost, plain, ((TINY, 5, 7),), 9), agree(plain, lost, ((TINY, 5, 7),), 9))
+        self.assertNotIn("X", agree(lost, plain, ((TINY, 5, 7),), 9)[1])
+
     def test_zeros_are_alike(self):
         plain = (1, (), steps(("convert", 0), form=TINY))
         other = (1, (), steps(("minus", 0), form=TINY))
@@ -227,7 +244,8 @@ class TestAgreement(Checker):
 
     def test_least_failing_point(self):
         less = (2, (), (("sub", (0, 1), TINY, "even"),))
-        for box, seats in [(BOX, (1, 1)), (((TINY, 1, 2), (TINY, -2, 1)), (1, -2)), (((TINY, 1, 7), (TINY, -1, 3)), (1, 1)), (((TINY, -8, 7), (TINY, 0, 2)), (-8, 2))]:
+        for box, seats in [(BOX, (1, 1)), (((TINY, 1, 2), (TINY, -2, 1)), (1, -2)), (((TINY, 1, 7), (TINY, -1, 3)), (1, 1)),
+                    (((TINY, -8, 7), (TINY, 0, 2)), (-8, 2))]:
             self.assertEqual(agree(SUM, less, box, 400), ("fails", seats))
 
     def test_limits(self):
@@ -315,6 +333,7 @@ class TestRefusals(unittest.TestCase):
         for call, last in [(agree, 5), (tree_holds, "X")]:
             assert_refused(self, BadProgram, call, None, None, None, None)
             self.assertEqual(refusal(call, SUM, (2, (), (None,)), None, None).at, 0)
+            self.assertEqual(refusal(call, (2, (), SUM[2] + (None,)), (2, (), (None,)), None, None).at, 1)
             for box in (None, True, (), BOX[:1], BOX + BOX[:1], [BOX[0], BOX[1]], ((TINY, 2, 1), BOX[0])):
                 assert_refused(self, BadBox, call, SUM, SWAPPED, box, None)
             one = (1, (), (("add", (0, 0), TINY, "even"),))
@@ -335,7 +354,8 @@ class TestRefusals(unittest.TestCase):
             for wrong in (None, True, 1, (0, 2, 0), [0, 1, 0]):
                 assert_refused(self, BadNumber, call, SUM, BOX, wrong, None, None)
                 assert_refused(self, BadNumber, call, SUM, BOX, NAN, wrong, None)
-            for low, high in [(INF, INF), (MINUS_INF, ONE), (ONE, INF), (NAN, NAN), (ONE, NAN), (NAN, ONE), (FOUR, ONE), (ZERO, MINUS_ZERO), (ONE, MINUS_ZERO)]:
+            for low, high in [(INF, INF), (MINUS_INF, ONE), (ONE, INF), (NAN, NAN), (ONE, NAN), (NAN, ONE), (FOUR, ONE), (ZERO,
+                        MINUS_ZERO), (ONE, MINUS_ZERO)]:
                 assert_refused(self, NotAsked, call, SUM, BOX, low, high, last)
                 if call is within:
                     assert_refused(self, BadCount, call, SUM, BOX, low, high, 401)

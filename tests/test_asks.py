@@ -66,7 +66,8 @@ QUESTIONS = [
 
 class TestAsk(unittest.TestCase):
     def test_kinds(self):
-        self.assertEqual(KINDS, ("table", "house", "through", "standin", "trip", "door", "sumdoor", "orders", "split", "difference", "agree", "within",
+        self.assertEqual(KINDS, ("table", "house", "through", "standin", "trip", "door", "sumdoor", "orders", "split", "difference",
+                    "agree", "within",
                                  "spans"))
         self.assertIs(type(KINDS), tuple)
 
@@ -84,11 +85,16 @@ class TestAsk(unittest.TestCase):
         self.assertEqual(ask(("spans", SUM, SPANS, ONE, (0, 5, -1))), ("fails", (ONE, (0, 3, 0))))
         self.assertEqual(ask(("spans", SUM, SPANS, MINUS_INF, INF)), ("holds", [(ONE, (0, 3, 0))]))
         self.assertEqual(ask(("spans", SUM, [LINE, SPANS[0]], MINUS_INF, ONE)), ("fails", LINE))
+        # The first span of these two is from 0 to 2, the last one from 1 to 4.
+        self.assertEqual(run_spans(DIVIDED, [SPANS[0], SPANS[0]]), [(ZERO, TWO), (ONE, FOUR)])
+        self.assertEqual(ask(("spans", DIVIDED, [SPANS[0], SPANS[0]], ONE, FOUR))[0], "holds")
+        self.assertEqual(ask(("spans", DIVIDED, [SPANS[0], SPANS[0]], ZERO, TWO)), ("fails", (ONE, FOUR)))
         told = ask(("spans", DIVIDED, [SPANS[0], SPANS[0]], ZERO, FOUR))
         self.assertEqual(told, ("holds", run_spans(DIVIDED, [SPANS[0], SPANS[0]])))
 
     def test_no_question(self):
-        wrongs = [None, True, 0, "table", (), [], ["table"], ("x",), (None,), (1,), (True,), (("table",),), ("spans ",), ("Table", 1, 2, 3, 4), ("",)]
+        wrongs = [None, True, 0, "table", (), [], ["table"], ("x",), (None,), (1,), (True,), (("table",),), ("spans ",), ("Table",
+                    1, 2, 3, 4), ("",)]
         wrongs += [question[:-1] for question, _ in QUESTIONS] + [question + (1,) for question, _ in QUESTIONS]
         wrongs += [list(question) for question, _ in QUESTIONS] + [(kind,) for kind in KINDS] + [question[1:] for question, _ in QUESTIONS]
         for wrong in wrongs:
@@ -151,6 +157,8 @@ class TestAsk(unittest.TestCase):
             self.check(BadSpan, "spans", SUM, SPANS, low, high)
             self.check(BadSpan, "spans", DIVIDED, [SPANS[0], (ZERO, ZERO)], low, high)
         self.check(NotAsked, "spans", DIVIDED, [SPANS[0], (ZERO, ZERO)], ONE, TWO)
+        late = (2, (), (("add", (0, 1), TINY, "even"), ("root", (1,), TINY, "even")))
+        self.check(NotAsked, "spans", late, [SPANS[0], (LOW, LOW)], ONE, TWO)
         self.assertEqual(refusal(ask, ("spans", (2, (), (None,)), SPANS, ONE, TWO)).at, 0)
 
     def test_too_many_is_no_fault_of_the_question(self):
@@ -161,8 +169,10 @@ class TestAsk(unittest.TestCase):
 
 class TestText(unittest.TestCase):
     def test_texts(self):
-        told = ["holds", "fails 5/8", "holds", "fails 5/8", "holds", "fails 0 5", "holds", "fails 3", "holds", None, "holds", "fails 9p1", "holds",
-                None, "holds", None, "holds", "fails 1p-1 1p-1", "holds", "fails 1p3 3p0", "holds", "fails 1 1", "holds", None, "holds", "fails 1p0 3p0"]
+        told = ["holds", "fails 5/8", "holds", "fails 5/8", "holds", "fails 0 5", "holds", "fails 3", "holds", None, "holds",
+                    "fails 9p1", "holds",
+                None, "holds", None, "holds", "fails 1p-1 1p-1", "holds", "fails 1p3 3p0", "holds", "fails 1 1", "holds", None,
+                            "holds", "fails 1p0 3p0"]
         for (question, answer), text in zip(QUESTIONS, told):
             found = answer_text(question, answer)
             if text is not None:
@@ -176,7 +186,8 @@ class TestText(unittest.TestCase):
     def test_numbers_and_none(self):
         self.assertEqual(answer_text(("door", "add", "even", 3, 4), door_question("add", "even", 3, 4)), "fails 5p0 7p-4")
         self.assertEqual(answer_text(("door", "root", "even", 3, 4), door_question("root", "even", 3, 4)), "fails 7p1")
-        self.assertEqual(answer_text(("sumdoor", (3, 0, 0), (2, 0, 3), "even"), sumdoor_question((3, 0, 0), (2, 0, 3), "even")), "fails 7p0 0")
+        self.assertEqual(answer_text(("sumdoor", (3, 0, 0), (2, 0, 3), "even"), sumdoor_question((3, 0, 0), (2, 0, 3), "even")),
+                    "fails 7p0 0")
         self.assertEqual(answer_text(("split", "add", (2, 0, 9), "down"), split_question("add", (2, 0, 9), mode="down")), "fails 3p9 -1p0")
 
     def test_orders_agree_within_spans(self):

@@ -102,7 +102,8 @@ class TestDoors(unittest.TestCase):
             assert_refused(self, BadOp, call, "sub", None, None, None)
             for near in ("zero", "up", "down", "odd", "x", None, True, ["even"]):
                 assert_refused(self, BadMode, call, "add", near, None, None)
-            for p in (1, 69, True, None):
+            for p in (1, 0, -2, 69, True, None):
+                assert_refused(self, BadCount, call, "add", "even", p, 100)
                 assert_refused(self, BadCount, call, "add", "even", p, None)
             for P in (3, 141, True, None, -1):
                 assert_refused(self, BadCount, call, "add", "even", 4, P)

@@ -29,7 +29,8 @@ FUNCTIONS = {
     "families": {"check_series": "series", "check_family": "family", "family_size": "family", "member": "series, m",
                  "first_from": "series, n, d", "numbers_family": "form, i, j", "times": "family, n, d", "shifted": "family, n, d",
                  "texts_family": "count, k, k2"},
-    "standins": {"rank_parts": f"form, series, {MODE}", "rank_sum": f"form, series, {MODE}", "standin_total": f"form, series, series2, {MODE}",
+    "standins": {"rank_parts": f"form, series, {MODE}", "rank_sum": f"form, series, {MODE}",
+                "standin_total": f"form, series, series2, {MODE}",
                  "standin_question": f"form, series, series2, {MODE}", "standin_paper_holds": f"form, series, series2, paper, {MODE}",
                  "division_pair": f"form, k, inner, i, j, {MODE}"},
     "doors": {"threshold": "op, p", "door_holds": "op, near, p, P", "door_question": "op, near, p, P", "room": "op, near, form",
@@ -47,7 +48,8 @@ FUNCTIONS = {
     "spanpapers": {"step_span": "op, form, spans", "run_spans": "program, spans", "spans_paper_holds": "program, spans, claims",
                    "pieces_hull": "program, form, spans, k"},
     "ranges": {"check_box": "box", "points": "box", "point_numbers": "box, seats", "ranges": "program, box", "grids": "program, box"},
-    "agree": {"agree": "program, program2, box, limit", "within": "program, box, low, high, limit", "tree_holds": "program, program2, box, letters",
+    "agree": {"agree": "program, program2, box, limit", "within": "program, box, low, high, limit",
+                "tree_holds": "program, program2, box, letters",
               "within_holds": "program, box, low, high, letters"},
     "asks": {"ask": "question", "check_question": "question", "answer_text": "question, answer"},
     "judges": {"judge": "question, answer"},
@@ -56,7 +58,8 @@ FUNCTIONS = {
                 "through_paper_holds": "chain, chain2, family, paper"},
 }
 CLASSES = {
-    ("polys", "Poly"): {"variable": "variables, at", "constant": "variables, n, d", "__iter__": "self", "__len__": "self", "__neg__": "self",
+    ("polys", "Poly"): {"variable": "variables, at", "constant": "variables, n, d", "__iter__": "self", "__len__": "self",
+                "__neg__": "self",
                         "__add__": "self, other", "__sub__": "self, other", "__mul__": "self, other", "__eq__": "self, other", "__call__": "self, exacts"},
     ("script", "Hall"): {"line": "self, text", "__iter__": "self", "__len__": "self"},
 }

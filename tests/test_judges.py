@@ -26,9 +26,12 @@ from tests.test_spans import LINE
 BARE = ("table", "house", "door", "sumdoor", "orders", "split", "difference")
 HOLDING = [(question, answer) for question, answer in QUESTIONS if answer[0] == "holds"]
 FAILING = [(question, answer) for question, answer in QUESTIONS if answer[0] == "fails"]
-JUNK = [None, True, False, 0, 1, "holds", "fails", "", [], (), ["holds"], ("holds", None, None), ("Holds",), (True,), (None,), (("holds",),), ("hold",),
-        ("fails",), ("holds", ("fails",)), ["fails", 1], ("x", 1), (0, 1), ("fails", None, None, None, None), (ONE,), (Poly(1),), Poly(1), Grid(TINY)]
-VALUES = [None, True, False, 0, 1, -1, 7, "S", "", "x", [], (), (1, 1, 1), (1, 2, 1), ONE, NAN, INF, [ONE], (ONE, TWO), LINE, (0,), (1, 1), (True, True),
+JUNK = [None, True, False, 0, 1, "holds", "fails", "", [], (), ["holds"], ("holds", None, None), ("Holds",), (True,), (None,),
+            (("holds",),), ("hold",),
+        ("fails",), ("holds", ("fails",)), ["fails", 1], ("x", 1), (0, 1), ("fails", None, None, None,
+                    None), (ONE,), (Poly(1),), Poly(1), Grid(TINY)]
+VALUES = [None, True, False, 0, 1, -1, 7, "S", "", "x", [], (), (1, 1, 1), (1, 2, 1), ONE, NAN, INF, [ONE], (ONE, TWO), LINE, (0,),
+            (1, 1), (True, True),
           [[]], ([], []), Poly(1), [(1, 2, 3, 4, 5)], "CPP", 1 << 9000, (0, 1), ((0, 1), 2)]
 
 
@@ -49,11 +52,13 @@ class TestTold(unittest.TestCase):
             for wrong in JUNK:
                 if wrong != answer:
                     self.assertIs(judge(question, wrong), False, (question, wrong))
-            for wrong in [list(answer), answer + (None,), answer[:-1] + (None,) if len(answer) > 1 else ("fails",), answer + answer, (answer,)]:
+            for wrong in [list(answer), answer + (None,), answer[:-1] + (None,) if len(answer) > 1 else ("fails",), answer + answer,
+                        (answer,)]:
                 if wrong != answer:
                     self.assertIs(judge(question, wrong), False, (question, wrong))
             for value in VALUES:
-                for wrong in [("holds", value), ("fails", value), ("fails", value, value), ("fails", value, value, value), ("holds", value, value)]:
+                for wrong in [("holds", value), ("fails", value), ("fails", value, value), ("fails", value, value, value), ("holds",
+                            value, value)]:
                     if wrong != answer:
                         self.assertIn(judge(question, wrong), (True, False))
             self.assertIs(judge(question, ("holds",)), answer == ("holds",))
@@ -90,7 +95,8 @@ class TestWitnesses(unittest.TestCase):
             self.assertIs(judge(question, ("fails", (exact[0] * 6, exact[1] * 6, 1))), told)
             if value > 0:
                 self.assertIs(judge(question, ("fails", (exact[0] ** 2 * 3, exact[1] ** 2 * 3, 2))), told)
-        for wrong in [(0, 1, 1), (0, 1, 2), (5, 0, 1), (5, 8, 3), (-5, 8, 2), (5, 8), [5, 8, 1], (True, 8, 1), (5, 8, True), (5 << 12000, 8 << 12000, 1), None]:
+        for wrong in [(0, 1, 1), (0, 1, 2), (5, 0, 1), (5, 8, 3), (-5, 8, 2), (5, 8), [5, 8, 1], (True, 8, 1), (5, 8, True),
+                    (5 << 12000, 8 << 12000, 1), None]:
             self.assertIs(judge(question, ("fails", wrong)), False)
         self.assertIs(judge(question, ("fails", (5 << 11000, 8 << 11000, 1))), True)
 
@@ -128,6 +134,10 @@ class TestWitnesses(unittest.TestCase):
             self.assertIs(judge(question, ("fails", place, 1)), False)
         self.assertIs(judge(question, ("fails", 0, 1)), True)
         self.assertIs(judge(question, ("fails", 1, 0)), False)
+        # The member of the last series is unlike, but its place is never counted from the end.
+        self.assertIs(judge(question, ("fails", 2, 0)), True)
+        self.assertIs(judge(question, ("fails", -1, 0)), False)
+        self.assertIs(judge(question, ("fails", -3, 1)), False)
 
     def test_standin(self):
         series, series2 = (0, 1, 3, 1, 40), (0, 3, 8, 1, 40)
@@ -148,6 +158,10 @@ class TestWitnesses(unittest.TestCase):
         self.assertIs(judge(("trip", (4, 0, 3), 2, 1, 39, "even", "even"), ("fails", 37)), True)
         for i in (True, None, "37", (37,)):
             self.assertIs(judge(question, ("fails", i)), False)
+        lone = [i for i in range(1, 40) if not trip((4, 0, 3), 1, at_rank((4, 0, 3), i))[2]]
+        for i, j in zip(lone, lone[2:]):
+            for k in range(i - 3, j + 4):
+                self.assertIs(judge(("trip", (4, 0, 3), 1, i, j, "even", "even"), ("fails", k)), i <= k <= j and k in lone)
 
     def test_door(self):
         for op in ("add", "mul", "div"):
@@ -174,7 +188,8 @@ class TestWitnesses(unittest.TestCase):
         question = ("door", "mul", "even", 4, 6)
         _, x, y = ask(question)
         self.assertEqual((x, y), ((0, 13, 0), (0, 13, 0)))
-        for a, b, told in [(0, 0, True), (-300, -100, True), (-407, 0, True), (-408, 0, False), (392, 0, True), (393, 0, False), (2000, -2000, True),
+        for a, b, told in [(0, 0, True), (-300, -100, True), (-407, 0, True), (-408, 0, False), (392, 0, True), (393, 0, False),
+                    (2000, -2000, True),
                            (1999, -2000, True), (-2000, 2000, True), (2000, -1600, False), (-1000, 593, True), (-1000, 592, False)]:
             self.assertIs(judge(question, ("fails", (0, 13, a), (0, 13, b))), told, (a, b))
         # Too many digits, zeros, infinities and NaN are no witness.
@@ -201,6 +216,10 @@ class TestWitnesses(unittest.TestCase):
             found += told
             self.assertIs(judge(question, ("fails", x, y)), told)
         self.assertGreater(found, 3)
+        narrow = ("sumdoor", (3, 0, 0), (2, 0, 3), "even")
+        for x, y in [((0, 7, 0), ZERO), (ZERO, (0, 7, 0)), ((0, 7, 0), MINUS_ZERO), (MINUS_ZERO, (1, 5, 0))]:
+            self.assertIs(judge(narrow, ("fails", x, y)), True)
+        self.assertIs(judge(narrow, ("fails", ZERO, MINUS_ZERO)), False)
         for wrong in [INF, NAN, MINUS_INF, (0, 5, 0), (0, 1, 5), (0, 1, -1), None, True, (0, 3, True)]:
             self.assertIs(judge(question, ("fails", wrong, ONE)), False)
             self.assertIs(judge(question, ("fails", (0, 3, 3), wrong)), False)
@@ -224,12 +243,25 @@ class TestWitnesses(unittest.TestCase):
         self.assertIs(judge(question, (kind, xs, plan2, plan)), True)
         self.assertIs(judge(question, (kind, xs, plan, plan)), False)
         self.assertIs(judge(question, (kind, xs[:-1] + [MINUS_ZERO], plan, plan2)), True)
-        for wrong in [xs[:-1], xs + [ZERO], [*xs[:-1], INF], [*xs[:-1], NAN], [*xs[:-1], (0, 1, 3)], [*xs[:-1], ONE], [*xs[:-1], None], tuple(xs), None, [None] * 5,
+        for wrong in [xs[:-1], xs + [ZERO], [*xs[:-1], INF], [*xs[:-1], NAN], [*xs[:-1], (0, 1, 3)], [*xs[:-1], ONE], [*xs[:-1],
+                    None], tuple(xs), None, [None] * 5,
                       [*xs[:-1], (0, 1, -2000)], [*xs[:-1], (0, 1, 2000)]]:
             self.assertIs(judge(question, (kind, wrong, plan, plan2)), False, wrong)
-        for wrong in [None, 0, (0, 1), left_plan(4), left_plan(6), list(plan), (plan, plan), ((((0, 1), 2), 3), 3), ((((0, 1), 2), True), 4), "plan", deep_plan(60)]:
+        for wrong in [None, 0, (0, 1), left_plan(4), left_plan(6), list(plan), (plan, plan), ((((0, 1), 2), 3), 3), ((((0, 1), 2),
+                    True), 4), "plan", deep_plan(70)]:
             self.assertIs(judge(question, (kind, xs, wrong, plan2)), False)
             self.assertIs(judge(question, (kind, xs, plan, wrong)), False)
+        # These numbers tell the plans apart, but they are no multiples in the range of the question.
+        last = (0, (((1, 2), 3), 4))
+        for question, xs in [(("orders", TINY, 5, 4, 0, "even"), [INF] + [(1, 1, 2)] * 4), (("orders", TINY, 5, 1, 0, "even"),
+                    ask(("orders", TINY, 5, 3, 0, "even"))[1]),
+                             (("orders", TINY, 5, 3, 1, "even"), ask(("orders", TINY, 5, 3, 0, "even"))[1]),
+                             (("orders", TINY, 5, 3, 0, "even"), [(0, 1, 2), ONE, ONE, ZERO, ZERO])]:
+            self.assertIs(judge(question, (kind, xs, left_plan(5), last)), False)
+            first, second = run_plan(TINY, left_plan(5), xs)[0], run_plan(TINY, last, xs)[0]
+            third = run_plan(TINY, ((((1, 2), 3), 4), 0), xs)[0]
+            self.assertFalse(alike(first, second) and alike(first, third))
+            self.assertIs(judge(question, (kind, xs, left_plan(5), ((((1, 2), 3), 4), 0))), False)
         wide = ("orders", (9, 0, 4), 40, 512, 0, "even")
         self.assertIs(judge(wide, ask(wide)), True)
 
@@ -250,18 +282,20 @@ class TestWitnesses(unittest.TestCase):
                     self.assertIs(judge(question, ("fails", (0, 1, -2), wrong)), False)
 
     def test_difference(self):
-        question = ("difference", TINY, 3, 1)
-        found = 0
         numbers = finite_numbers(TINY) + [INF, NAN, (0, 5, 0), (0, 1, 4), (0, 1, -1), None, True, (0, True, 0)]
-        for x, y in product(numbers, numbers):
-            told = False
-            if all(type(z) is tuple and type(z[1]) is int and z[0] == 0 and 0 < z[1] < 4 and 0 <= z[2] and z != (0, 1, 4) for z in (x, y)):
-                difference = value_of(x) - value_of(y)
-                held = difference == 0 or abs(difference) in [abs(value_of(z)) for z in finite_numbers(TINY)]
-                told = 0 <= difference <= 2 * value_of(y) and not held
-            found += told
-            self.assertIs(judge(question, ("fails", x, y)), told, (x, y))
-        self.assertGreater(found, 0)
+        held = {abs(value_of(z)) for z in finite_numbers(TINY)}
+        for n, d in [(3, 1), (8, 3), (300, 100), (7, 2), (17, 6), (100, 1), (799, 300)]:
+            question, found = ("difference", TINY, n, d), 0
+            for x, y in product(numbers, numbers):
+                told = False
+                if all(type(z) is tuple and type(z[1]) is int and z[0] == 0 and 0 < z[1] < 4 and 0 <= z[2] and z != (0, 1,
+                            4) for z in (x, y)):
+                    difference = value_of(x) - value_of(y)
+                    told = 0 <= difference and value_of(x) <= Fraction(n, d) * value_of(y) and difference not in held
+                found += told
+                self.assertIs(judge(question, ("fails", x, y)), told, (x, y))
+            self.assertEqual(found > 0, ask(question)[0] == "fails")
+        self.assertEqual(ask(("difference", TINY, 8, 3))[0], "fails")
 
     def test_agree_and_within(self):
         box = ((TINY, -3, 4), (TINY, 5, 7))
@@ -281,9 +315,14 @@ class TestWitnesses(unittest.TestCase):
     def test_spans(self):
         question = ("spans", SUM, SPANS, ONE, TWO)
         self.assertIs(judge(question, ("fails", (ONE, (0, 3, 0)))), True)
-        for wrong in [(ONE, TWO), LINE, (TWO, (0, 3, 0)), [ONE, (0, 3, 0)], (ONE,), None, ((0, True, 0), (0, 3, 0)), ((False, 1, 0), (0, 3, False)), ONE]:
+        for wrong in [(ONE, TWO), LINE, (TWO, (0, 3, 0)), [ONE, (0, 3, 0)], (ONE,), None, ((0, True, 0), (0, 3, 0)), ((False, 1, 0),
+                    (0, 3, False)), ONE]:
             self.assertIs(judge(question, ("fails", wrong)), False)
         self.assertIs(judge(("spans", SUM, SPANS, ONE, FOUR), ("fails", (ONE, (0, 3, 0)))), False)
+        # The span of the first step does not lie in the ends either, but it is not the last one.
+        two = (2, (), SUM[2] + (("add", (2, 2), TINY, "even"),))
+        for span, told in [((TWO, (0, 3, 1)), True), ((ONE, (0, 3, 0)), False)]:
+            self.assertIs(judge(("spans", two, SPANS, TWO, TWO), ("fails", span)), told)
 
 
 def odd(k):
@@ -302,7 +341,8 @@ def deep_plan(depth):
 
 class TestPapers(unittest.TestCase):
     def test_papers_of_trees(self):
-        for letters, told in [("X", True), ("CXX", True), ("CCPPX", True), ("S", False), ("CX", False), ("", False), ("P", False), (["X"], False), (None, False)]:
+        for letters, told in [("X", True), ("CXX", True), ("CCPPX", True), ("S", False), ("CX", False), ("", False), ("P", False),
+                    (["X"], False), (None, False)]:
             self.assertIs(judge(("agree", SUM, (2, (), (("add", (1, 0), TINY, "even"),)), BOX, 20), ("holds", letters)), told)
             self.assertIs(judge(("within", SUM, BOX, ONE, FOUR, 20), ("holds", letters)), letters == "S")
         self.assertIs(judge(("within", SUM, BOX, ONE, FOUR, 20), ("holds", "S")), True)
@@ -317,7 +357,8 @@ class TestPapers(unittest.TestCase):
                               ([(ONE, (0, 3, 0))], False), (tuple(told[1]), False), ([(ONE, (0, 3, 0)), (LOW, (0, 3, 0))], False)]:
             self.assertIs(judge(("spans", program, SPANS, ZERO, (0, 3, 0)), ("holds", claims)), right, claims)
         wider = ("spans", program, SPANS, LOW, FOUR)
-        for claims, right in [(told[1], True), ([(ONE, FOUR), (ZERO, FOUR)], True), ([(ZERO, FOUR), (LOW, FOUR)], True), ([LINE, LINE], False), ([LINE, (LOW, FOUR)], False)]:
+        for claims, right in [(told[1], True), ([(ONE, FOUR), (ZERO, FOUR)], True), ([(ZERO, FOUR), (LOW, FOUR)], True), ([LINE,
+                    LINE], False), ([LINE, (LOW, FOUR)], False)]:
             self.assertIs(judge(wider, ("holds", claims)), right, claims)
 
     def test_bent_papers_of_rows(self):

@@ -84,8 +84,10 @@ class TestMaking(unittest.TestCase):
     def test_bounds_of_terms(self):
         for right in [((64,), 1, 1), ((0,), 1, 1), ((1,), BIG - 1, 1), ((1,), 1 - BIG, BIG - 1), ((1,), 3, BIG - 1)]:
             self.assertEqual(len(Poly(1, [right])), 1)
-        wrongs = [((65,), 1, 1), ((-1,), 1, 1), ((1, 1), 1, 1), ((), 1, 1), ([1], 1, 1), (1, 1, 1), ((True,), 1, 1), ((1,), True, 1), ((1,), 1, True),
-                  ((1,), 1, 0), ((1,), 1, -1), ((1,), BIG, 1), ((1,), -BIG, 1), ((1,), 1, BIG), ((1,), BIG, BIG), ((1,), 1), ((1,), 1, 1, 1),
+        wrongs = [((65,), 1, 1), ((-1,), 1, 1), ((1, 1), 1, 1), ((), 1, 1), ([1], 1, 1), (1, 1, 1), ((True,), 1, 1), ((1,), True,
+                    1), ((1,), 1, True),
+                  ((1,), 1, 0), ((1,), 1, -1), ((1,), BIG, 1), ((1,), -BIG, 1), ((1,), 1, BIG), ((1,), BIG, BIG), ((1,), 1), ((1,),
+                              1, 1, 1),
                   [(1,), 1, 1], None, True, 0, "term", (("1",), 1, 1), ((1,), "1", 1), ((1,), 1, None), ((1,), 0, 0), ((65,), 0, 1)]
         for wrong in wrongs:
             for kind in (list, tuple):
@@ -121,7 +123,8 @@ class TestMaking(unittest.TestCase):
 
     def test_constants(self):
         self.assertEqual(list(Poly.constant(1, BIG - 1, BIG - 2)), [((0,), BIG - 1, BIG - 2)])
-        for n, d in [(BIG, 1), (-BIG, 1), (1, BIG), (1, 0), (1, -1), (True, 1), (1, True), (None, 1), (1, None), ("1", 1), (BIG, BIG), (0, 0)]:
+        for n, d in [(BIG, 1), (-BIG, 1), (1, BIG), (1, 0), (1, -1), (True, 1), (1, True), (None, 1), (1, None), ("1", 1), (BIG,
+                    BIG), (0, 0)]:
             assert_refused(self, BadExact, Poly.constant, 1, n, d)
 
 
@@ -136,7 +139,8 @@ class TestOperators(unittest.TestCase):
                 self.assertEqual(list(-a), terms_of({powers: -value for powers, value in added(first).items()}))
                 self.assertEqual(list(a + b), terms_of(added(first + second)))
                 self.assertEqual(list(a - b), terms_of(added(first + [(powers, -n, d) for powers, n, d in second])))
-                products = [(tuple(map(sum, zip(powers, powers2))), n * n2, d * d2) for (powers, n, d), (powers2, n2, d2) in product(first, second)]
+                products = [(tuple(map(sum, zip(powers, powers2))), n * n2, d * d2) for (powers, n, d), (powers2, n2,
+                            d2) in product(first, second)]
                 self.assertEqual(list(a * b), terms_of(added(products)))
                 self.assertEqual((list(a), list(b)), kept)
                 for made in (-a, a + b, a - b, a * b):
@@ -236,7 +240,8 @@ class TestValues(unittest.TestCase):
     def test_wrong_exacts(self):
         poly = Poly(2, [((1, 1), 1, 1)])
         one = (1, 1, 1)
-        wrongs = [None, True, 0, (one, one), [one], [one, one, one], [], [one, None], [one, (1, 1, 2)], [one, (1, 0, 1)], [one, (1, 1)], [one, [1, 1, 1]],
+        wrongs = [None, True, 0, (one, one), [one], [one, one, one], [], [one, None], [one, (1, 1, 2)], [one, (1, 0, 1)], [one, (1,
+                    1)], [one, [1, 1, 1]],
                   [one, (1 << 300, 1, 1)], [one, (-(1 << 300), 1, 1)], [one, (1, 1 << 300, 1)], [(True, 1, 1), one], [(1, True, 1), one],
                   [(1, 1, True), one], [one, (0, 1, 2)], "xy", [one] * 5]
         for wrong in wrongs:
@@ -247,7 +252,8 @@ class TestValues(unittest.TestCase):
 
 class TestShape(unittest.TestCase):
     def test_what_the_class_defines(self):
-        for name in ("variable", "constant", "variables", "__init__", "__iter__", "__len__", "__neg__", "__add__", "__sub__", "__mul__", "__eq__",
+        for name in ("variable", "constant", "variables", "__init__", "__iter__", "__len__", "__neg__", "__add__", "__sub__",
+                    "__mul__", "__eq__",
                      "__call__"):
             self.assertIn(name, vars(Poly))
         self.assertIsInstance(vars(Poly)["variables"], property)

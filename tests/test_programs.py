@@ -54,7 +54,8 @@ class TestCheck(unittest.TestCase):
             assert_wrong(self, -1, wrong)
         for inputs in (0, 5, -1, True, None, "1", (1,), [1]):
             assert_wrong(self, -1, (inputs, (), (ADD,)))
-        for constants in [None, True, [], [ONE], (ONE,) * 9, (INF,), (MINUS_INF,), (NAN,), (None,), ((0, 2, 0),), ((0, True, 0),), ONE, "x", (ONE, INF)]:
+        for constants in [None, True, [], [ONE], (ONE,) * 9, (INF,), (MINUS_INF,), (NAN,), (None,), ((0, 2, 0),), ((0, True, 0),),
+                    ONE, "x", (ONE, INF)]:
             assert_wrong(self, -1, (1, constants, (ADD,)))
         for told in [None, True, (), [], [ADD], (ADD,) * 13, "steps", 1]:
             assert_wrong(self, -1, (1, (), told))
@@ -66,8 +67,10 @@ class TestCheck(unittest.TestCase):
     def test_wrong_steps(self):
         wrongs = [None, True, 0, "step", (), list(ADD), ADD[:3], ADD + (1,)]
         wrongs += [(op,) + ADD[1:] for op in (None, True, "rest", "", "Add", ["add"], ("add",), 1, "root", "muladd", "size")]
-        wrongs += [("add", places, TINY, "even") for places in (None, True, 0, (), (0,), (0, 0, 0), [0, 0], (0, -1), (-1, 0), (0, True), (False, 0), (0, "0"), (0, None), "00")]
-        wrongs += [("add", (0, 0), form, "even") for form in (None, True, (1, 0, 2), (2, 0), [2, 0, 2], "2:0:2", (2, True, 2), (2, False, 2))]
+        wrongs += [("add", places, TINY, "even") for places in (None, True, 0, (), (0,), (0, 0, 0), [0, 0], (0, -1), (-1, 0), (0,
+                    True), (False, 0), (0, "0"), (0, None), "00")]
+        wrongs += [("add", (0, 0), form, "even") for form in (None, True, (1, 0, 2), (2, 0), [2, 0, 2], "2:0:2", (2, True, 2), (2,
+                    False, 2))]
         wrongs += [("add", (0, 0), TINY, mode) for mode in (None, True, "x", "", ["even"], 0, "Even")]
         for wrong in wrongs:
             for at in range(3):
@@ -143,7 +146,8 @@ def exact_deed(op, args):
     if op == "div":
         value = None if args[1] == 0 else x / args[1]
     else:
-        value = {"add": lambda: x + args[1], "sub": lambda: x - args[1], "mul": lambda: x * args[1], "muladd": lambda: x * args[1] + args[2],
+        value = {"add": lambda: x + args[1], "sub": lambda: x - args[1], "mul": lambda: x * args[1],
+                    "muladd": lambda: x * args[1] + args[2],
                  "minus": lambda: -x, "size": lambda: abs(x), "convert": lambda: x}[op]()
     if value is not None and max(abs(value.numerator), value.denominator) >= 1 << 12000:
         return None
@@ -164,13 +168,15 @@ class TestExact(unittest.TestCase):
         self.assertGreater(lost, 30)
 
     def test_none_and_the_steps_behind_it(self):
-        program = (1, (ZERO,), steps(("div", 0, 1), ("add", 0, 0), ("add", 2, 0), ("minus", 0), ("size", 5), ("mul", 3, 4), ("muladd", 2, 0, 0)))
+        program = (1, (ZERO,), steps(("div", 0, 1), ("add", 0, 0), ("add", 2, 0), ("minus", 0), ("size", 5), ("mul", 3, 4),
+                    ("muladd", 2, 0, 0)))
         self.assertEqual(exact_program(program, [THREE]), [None, (6, 1, 1), None, (-3, 1, 1), (3, 1, 1), None, None])
         self.assertEqual(exact_program((1, (MINUS_ZERO,), steps(("div", 0, 1))), [ZERO]), [None])
         self.assertEqual(exact_program((1, (MINUS_ZERO,), steps(("div", 1, 0), ("minus", 1), ("root", 1))), [THREE]), [(0, 1, 1)] * 3)
 
     def test_roots(self):
-        for x, told in [((0, 9, 0), (3, 1, 1)), ((0, 9, -2), (3, 2, 1)), ((0, 9, -4), (3, 4, 1)), ((0, 9, 1), None), ((0, 3, 0), None), ((1, 9, 0), None),
+        for x, told in [((0, 9, 0), (3, 1, 1)), ((0, 9, -2), (3, 2, 1)), ((0, 9, -4), (3, 4, 1)), ((0, 9, 1), None), ((0, 3, 0),
+                    None), ((1, 9, 0), None),
                         (ZERO, (0, 1, 1)), (MINUS_ZERO, (0, 1, 1)), ((0, 1, 2000), (1 << 1000, 1, 1)), ((0, 1, 1999), None)]:
             self.assertEqual(exact_program((1, (), steps(("root", 0))), [x]), [told], x)
 
@@ -182,10 +188,12 @@ class TestExact(unittest.TestCase):
         self.assertEqual(exact_program(six, [(0, 1, -2000)]), [(1, 1 << 4000, 1), low, None, (1, 1 << 7999, 1)])
         self.assertEqual(exact_program(six, [(0, 1, 1999)])[2], (1 << 11994, 1, 1))
         # The product alone of muladd may reach 2^12000, the sum may not.
-        program = (2, (), steps(("mul", 0, 0), ("mul", 2, 2), ("mul", 2, 0), ("muladd", 3, 4, 1), ("mul", 3, 4), ("minus", 3), ("muladd", 3, 4, 1)))
+        program = (2, (), steps(("mul", 0, 0), ("mul", 2, 2), ("mul", 2, 0), ("muladd", 3, 4, 1), ("mul", 3, 4), ("minus", 3),
+                    ("muladd", 3, 4, 1)))
         told = exact_program(program, [(0, 1, 2000), ONE])
         self.assertEqual(told[3:5], [None, None])
-        whole = (1, ((0, 1, -1),), steps(("mul", 0, 0), ("mul", 2, 2), ("mul", 2, 0), ("mul", 4, 1), ("minus", 5), ("muladd", 3, 5, 6), ("mul", 3, 5), ("muladd", 6, 1, 5)))
+        whole = (1, ((0, 1, -1),), steps(("mul", 0, 0), ("mul", 2, 2), ("mul", 2, 0), ("mul", 4, 1), ("minus", 5), ("muladd", 3, 5,
+                    6), ("mul", 3, 5), ("muladd", 6, 1, 5)))
         told = exact_program(whole, [(0, 1, 2000)])
         self.assertEqual(told[3], (1 << 5999, 1, 1))
         self.assertEqual(told[5:], [None, None, (1 << 5998, 1, 1)])
@@ -218,7 +226,8 @@ class TestPolynomial(unittest.TestCase):
         two, half = Poly.constant(2, 2, 1), Poly.constant(2, 1, 2)
         for told, poly in [([("add", 0, 1)], x + y), ([("sub", 0, 1)], x - y), ([("mul", 0, 1)], x * y), ([("muladd", 0, 1, 0)], x * y + x),
                            ([("minus", 0)], -x), ([("convert", 1)], y), ([("add", 0, 2)], x + two), ([("mul", 0, 3)], x * half),
-                           ([("sub", 0, 0)], Poly(2)), ([("mul", 4, 0)], Poly(2)), ([("add", 4, 4)], Poly(2)), ([("mul", 0, 0), ("sub", 5, 1)], x * x - y),
+                           ([("sub", 0, 0)], Poly(2)), ([("mul", 4, 0)], Poly(2)), ([("add", 4, 4)], Poly(2)), ([("mul", 0, 0),
+                                       ("sub", 5, 1)], x * x - y),
                            ([("mul", 2, 3)], Poly.constant(2, 1, 1))]:
             self.assertEqual(polynomial((2, ((0, 1, 1), (0, 1, -1), MINUS_ZERO), steps(*told))), poly)
 
@@ -269,8 +278,15 @@ class TestPolynomial(unittest.TestCase):
         self.assertEqual(list(told), [((64,), 1, 1)])
         self.assertIsNone(polynomial((1, (), steps(*six, ("mul", 6, 0)))))
         self.assertIsNone(polynomial((1, (), steps(*six, ("mul", 6, 0), ("convert", 0)))))
+        # One variable alone is enough, also in a step that the last one does not use.
+        two = [("mul", 0, 0), ("mul", 2, 2), ("mul", 3, 3), ("mul", 4, 4), ("mul", 5, 5), ("mul", 6, 6), ("mul", 7, 1)]
+        self.assertEqual(list(polynomial((2, (), steps(*two)))), [((64, 1), 1, 1)])
+        for last in (("mul", 8, 0), ("muladd", 8, 0, 1)):
+            self.assertIsNone(polynomial((2, (), steps(*two, last))))
+            self.assertIsNone(polynomial((2, (), steps(*two, last, ("convert", 0)))))
         # The product alone of muladd may have a greater power, if it vanishes in the sum.
-        zero = (1, (ZERO,), steps(("mul", 0, 0), ("mul", 2, 2), ("mul", 3, 3), ("mul", 4, 4), ("mul", 5, 5), ("mul", 6, 6), ("muladd", 7, 1, 0)))
+        zero = (1, (ZERO,), steps(("mul", 0, 0), ("mul", 2, 2), ("mul", 3, 3), ("mul", 4, 4), ("mul", 5, 5), ("mul", 6, 6),
+                    ("muladd", 7, 1, 0)))
         self.assertEqual(list(polynomial(zero)), [((1,), 1, 1)])
         self.assertIsNone(polynomial((1, (ZERO,), zero[2][:-1] + steps(("muladd", 7, 0, 1)))))
 

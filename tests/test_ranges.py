@@ -51,8 +51,10 @@ class TestBoxes(unittest.TestCase):
                     assert_refused(self, BadBox, points, box)
 
     def test_wrong_kinds(self):
-        wrongs = [None, True, 0, "box", (), [SIDE], SIDE, BOX * 5, (SIDE, None), (list(SIDE),), (SIDE[:2],), (SIDE + (1,),), ((None, 0, 1),), ((TINY, True, 1),),
-                  ((TINY, 0, True),), ((TINY, False, 1),), (((True, 0, 2), 0, 1),), (((2, False, 2), 0, 1),), (((1, 0, 2), 0, 1),), ((TINY, None, 1),),
+        wrongs = [None, True, 0, "box", (), [SIDE], SIDE, BOX * 5, (SIDE, None), (list(SIDE),), (SIDE[:2],), (SIDE + (1,),), ((None,
+                    0, 1),), ((TINY, True, 1),),
+                  ((TINY, 0, True),), ((TINY, False, 1),), (((True, 0, 2), 0, 1),), (((2, False, 2), 0, 1),), (((1, 0, 2), 0,
+                              1),), ((TINY, None, 1),),
                   ((TINY, 0, "1"),), ((list(TINY), 0, 1),)]
         for wrong in wrongs:
             for call in (check_box, points):
@@ -63,9 +65,11 @@ class TestBoxes(unittest.TestCase):
 
     def test_too_many_points(self):
         wide = (53, -600, 600)
-        for box in [((wide, 1, 1 << 40),), ((wide, 1, 1 << 20), (wide, -(1 << 20), -1)), ((wide, 1, 1 << 10),) * 4, ((wide, 0, (1 << 38) - 1), (wide, -1, 2))]:
+        for box in [((wide, 1, 1 << 40),), ((wide, 1, 1 << 20), (wide, -(1 << 20), -1)), ((wide, 1, 1 << 10),) * 4, ((wide, 0,
+                    (1 << 38) - 1), (wide, -1, 2))]:
             self.assertEqual(points(box), 1 << 40)
-        for box in [((wide, 1, (1 << 40) + 1),), ((wide, 1, 1 << 20), (wide, -(1 << 20), 0)), ((wide, 1, 1 << 10),) * 3 + ((wide, 1, 1025),),
+        for box in [((wide, 1, (1 << 40) + 1),), ((wide, 1, 1 << 20), (wide, -(1 << 20), 0)), ((wide, 1, 1 << 10),) * 3 + ((wide, 1,
+                    1025),),
                     ((wide, -many(wide) - 1, many(wide)),) * 4]:
             assert_refused(self, BadBox, points, box)
 
@@ -141,7 +145,8 @@ class TestRanges(unittest.TestCase):
         return ranges((len(self.box), constants, ((op, args, form, mode),)), self.box)[0]
 
     def test_division(self):
-        for a, b, told in [(-3, -2, True), (-3, -1, False), (-3, 0, False), (-3, 3, False), (-1, -1, False), (0, 0, False), (-1, 0, False), (0, 3, False),
+        for a, b, told in [(-3, -2, True), (-3, -1, False), (-3, 0, False), (-3, 3, False), (-1, -1, False), (0, 0, False), (-1, 0,
+                    False), (0, 3, False),
                            (1, 3, True)]:
             self.box = ((TINY, 2, 3), (TINY, a, b))
             self.assertEqual(self.one("div", 0, 1) is not None, told, (a, b))
@@ -167,7 +172,8 @@ class TestRanges(unittest.TestCase):
         self.assertEqual(ranges(program, ((TINY, 1, 7),)), [None, None, ((1, 3, 2), (1, 1, 0)), None])
 
     def test_size_across_zero(self):
-        for a, b, told in [(-4, 2, (ZERO, (0, 3, 0))), (-4, -2, (ONE, (0, 3, 0))), (-4, -1, (ZERO, (0, 3, 0))), (-4, 0, (ZERO, (0, 3, 0))), (2, 3, ((0, 1, 1), (0, 3, 0))),
+        for a, b, told in [(-4, 2, (ZERO, (0, 3, 0))), (-4, -2, (ONE, (0, 3, 0))), (-4, -1, (ZERO, (0, 3, 0))), (-4, 0, (ZERO, (0,
+                    3, 0))), (2, 3, ((0, 1, 1), (0, 3, 0))),
                            (-1, -1, (ZERO, ZERO)), (-1, 0, (ZERO, ZERO)), (0, 3, (ZERO, (0, 3, 0)))]:
             self.box = ((TINY, a, b),)
             self.assertEqual(self.one("size", 0), told, (a, b))
@@ -233,7 +239,8 @@ class TestGrids(unittest.TestCase):
         full = 0
         for _ in range(500):
             inputs = picker.randint(1, 3)
-            program = some_program(picker, inputs, picker.randint(1, 5), self.OPS[:picker.choice([7, 9])], [(9, -6, 4), (12, -3, 3), (30, -20, 20), TINY])
+            program = some_program(picker, inputs, picker.randint(1, 5), self.OPS[:picker.choice([7, 9])], [(9, -6, 4), (12, -3, 3),
+                        (30, -20, 20), TINY])
             box = some_box(picker, inputs)
             told = grids(program, box)
             self.assertEqual(told, told_grids(program, box), (program, box))
@@ -261,18 +268,21 @@ class TestGrids(unittest.TestCase):
     def test_inputs(self):
         # In (3, -2, 1) the seats 1..3 are 1/4, 1/2, 3/4 and 4 is 1 = 4 * 2^-2.
         for a, b, told in [(4, 5, (-2, (5, 4, 1))), (8, 9, (-1, (5, 2, 1))), (8, 15, (-1, (7, 1, 1))), (12, 13, (0, (5, 1, 1))),
-                           (1, 2, (-2, (1, 2, 1))), (0, 1, (-2, (1, 4, 1))), (-1, 0, (-2, (0, 1, 1))), (-2, -1, (-2, (1, 4, 1))), (-9, 3, (-2, (2, 1, 1))),
+                           (1, 2, (-2, (1, 2, 1))), (0, 1, (-2, (1, 4, 1))), (-1, 0, (-2, (0, 1, 1))), (-2, -1, (-2, (1, 4,
+                                       1))), (-9, 3, (-2, (2, 1, 1))),
                            (-13, -9, (-1, (4, 1, 1)))]:
             self.assertEqual(self.grid_of((SMALL, a, b)), told, (a, b))
 
     def test_one_number_inputs_and_constants(self):
-        for k, told in [(4, (0, (1, 1, 1))), (8, (1, (2, 1, 1))), (10, (0, (3, 1, 1))), (0, (0, (0, 1, 1))), (-1, (0, (0, 1, 1))), (-5, (0, (1, 1, 1)))]:
+        for k, told in [(4, (0, (1, 1, 1))), (8, (1, (2, 1, 1))), (10, (0, (3, 1, 1))), (0, (0, (0, 1, 1))), (-1, (0, (0, 1, 1))),
+                    (-5, (0, (1, 1, 1)))]:
             self.assertEqual(self.grid_of((SMALL, k, k)), told)
         # A zero has the power 0, also where lo is above 0.
         self.assertEqual(self.grid_of(((3, 4, 5), 0, 0)), (0, (0, 1, 1)))
         self.assertIsNone(self.grid_of(((3, 4, 5), 0, 0), form=(3, 1, 5)))
         self.assertEqual(self.grid_of(((3, 4, 5), 0, 1)), (4, (16, 1, 1)))
-        for constant, told in [((0, 5, -3), (-3, (5, 8, 1))), ((1, 5, 7), (7, (640, 1, 1))), (MINUS_ZERO, (0, (0, 1, 1))), ((0, 1, 599), (599, (1 << 599, 1, 1)))]:
+        for constant, told in [((0, 5, -3), (-3, (5, 8, 1))), ((1, 5, 7), (7, (640, 1, 1))), (MINUS_ZERO, (0, (0, 1, 1))), ((0, 1,
+                    599), (599, (1 << 599, 1, 1)))]:
             self.assertEqual(self.grid_of(SIDE, constants=(constant,), step=("convert", 1)), told)
 
     def test_g_at_lo_and_the_bounds_of_B(self):

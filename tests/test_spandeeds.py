@@ -32,7 +32,7 @@ def all_spans(values):
 
 
 SPANS = all_spans(VALUES)
-FEWER = all_spans(sorted(VALUES[::2] + [Fraction(20)]))
+FEWER = all_spans(sorted(VALUES[::2] + [Fraction(0), Fraction(20)]))
 
 
 def bound(x):
@@ -102,7 +102,8 @@ class TestAgainstMembers(unittest.TestCase):
                     self.assertEqual(span_root(form, span), [])
                     continue
                 low, high = min(inside), max(inside)
-                ends = [slow_round(form, (low.numerator, low.denominator, 2), "down")[0], slow_round(form, (high.numerator, high.denominator, 2), "up")[0]]
+                ends = [slow_round(form, (low.numerator, low.denominator, 2), "down")[0], slow_round(form, (high.numerator,
+                            high.denominator, 2), "up")[0]]
                 # The root of what stands for infinity is still beyond these formats.
                 self.assertEqual(span_root(form, span), [tuple(ends)], (form, span))
 
@@ -121,7 +122,8 @@ class TestAgainstMembers(unittest.TestCase):
 
     def around_zero(self, form, xs, ys):
         parts = [[y for y in ys if y < 0], [y for y in ys if y > 0]]
-        found = sorted([slow_span(form, [x / y for x in xs for y in part]) for part in parts if part], key=lambda span: (bound(span[0]), bound(span[1])))
+        found = sorted([slow_span(form, [x / y for x in xs for y in part]) for part in parts if part],
+                    key=lambda span: (bound(span[0]), bound(span[1])))
         if len(found) == 2 and meet(*found) is not None:
             return [hull(*found)]
         return found
@@ -194,7 +196,8 @@ class TestTold(unittest.TestCase):
 
 class TestSpanText(unittest.TestCase):
     def test_texts(self):
-        for text, value in [("1", Fraction(1)), ("0.1", Fraction(1, 10)), ("-2.5", Fraction(-5, 2)), ("13e0", Fraction(13)), ("-1e9", Fraction(-10 ** 9)),
+        for text, value in [("1", Fraction(1)), ("0.1", Fraction(1, 10)), ("-2.5", Fraction(-5, 2)), ("13e0", Fraction(13)),
+                    ("-1e9", Fraction(-10 ** 9)),
                             ("+.3e1", Fraction(3)), ("1e-9", Fraction(1, 10 ** 9))]:
             for form in FORMS:
                 self.assertEqual(span_text(form, text), outward(form, value, value), text)
@@ -206,14 +209,16 @@ class TestSpanText(unittest.TestCase):
     def test_refusals(self):
         for text in ("inf", "+inf", "-inf", "nan"):
             assert_at(self, 0, span_text, TINY, text)
-        for text, at in [("+in", 3), ("", 0), ("x", 0), ("1e", 2), ("1 ", 1), ("infx", 3), ("nano", 3), ("1e9999", 2), ("1e-1501", 3), ("+nan", 1),
+        for text, at in [("+in", 3), ("", 0), ("x", 0), ("1e", 2), ("1 ", 1), ("infx", 3), ("nano", 3), ("1e9999", 2), ("1e-1501",
+                    3), ("+nan", 1),
                          ("1" * 701, 700), (None, 0), (True, 0), (1, 0), (["1"], 0)]:
             assert_at(self, at, span_text, TINY, text)
         assert_refused(self, BadFormat, span_text, None, None)
 
 
 class TestRefusals(unittest.TestCase):
-    CALLS = {"span_add": 2, "span_sub": 2, "span_mul": 2, "span_div": 2, "span_least": 2, "span_greatest": 2, "span_muladd": 3, "span_minus": 1,
+    CALLS = {"span_add": 2, "span_sub": 2, "span_mul": 2, "span_div": 2, "span_least": 2, "span_greatest": 2, "span_muladd": 3,
+                "span_minus": 1,
              "span_size": 1, "span_square": 1, "span_convert": 1, "span_root": 1}
 
     def test_wrong_spans(self):

@@ -14,7 +14,8 @@ from tests.test_spans import LINE, NO_SPANS, SPANS
 
 ONE, TWO, THREE, LOW = (0, 1, 0), (0, 1, 1), (0, 3, 0), (1, 1, 0)
 POINT = (ONE, ONE)
-DEEDS = {"add": span_add, "sub": span_sub, "mul": span_mul, "muladd": span_muladd, "minus": span_minus, "size": span_size, "convert": span_convert}
+DEEDS = {"add": span_add, "sub": span_sub, "mul": span_mul, "muladd": span_muladd, "minus": span_minus, "size": span_size,
+            "convert": span_convert}
 MANY = {"add": 2, "sub": 2, "mul": 2, "div": 2, "muladd": 3, "root": 1, "convert": 1, "minus": 1, "size": 1}
 
 
@@ -114,7 +115,8 @@ class TestRunning(unittest.TestCase):
 
     def test_constants_are_points(self):
         told = steps(("convert", 1), ("convert", 2), ("convert", 3), form=TINY)
-        self.assertEqual(run_spans((1, (MINUS_ZERO, (0, 5, 0), (1, 5, 0)), told), [LINE]), [(ZERO, ZERO), ((0, 1, 2), (0, 3, 1)), ((1, 3, 1), (1, 1, 2))])
+        self.assertEqual(run_spans((1, (MINUS_ZERO, (0, 5, 0), (1, 5, 0)), told), [LINE]), [(ZERO, ZERO), ((0, 1, 2), (0, 3, 1)),
+                    ((1, 3, 1), (1, 1, 2))])
 
     def test_wrong_arguments(self):
         program = (2, (), steps(("add", 0, 1), form=TINY))
@@ -144,7 +146,8 @@ class TestPapers(unittest.TestCase):
             for at in range(len(told)):
                 for claim in [LINE, picker.choice(SPANS), (told[at][0], told[at][0]), (told[at][1], told[at][1]), hull(told[at], POINT)]:
                     claims = told[:at] + [claim] + told[at + 1:]
-                    self.assertIs(spans_paper_holds(program, spans, claims), self.is_paper(program, spans, claims), (program, spans, claims))
+                    self.assertIs(spans_paper_holds(program, spans, claims), self.is_paper(program, spans, claims), (program, spans,
+                                claims))
         self.assertGreater(empty, 10)
 
     def is_paper(self, program, spans, claims):
@@ -168,7 +171,8 @@ class TestPapers(unittest.TestCase):
         self.assertIs(spans_paper_holds(program, spans, told), True)
         wrongs = [None, True, 0, "claims", (), tuple(told), [], told[:1], told + told[:1], [told[0], None], [told[0], list(told[1])],
                   # Of no format, too narrow, and right ones behind a wider claim that are too narrow now.
-                  [((0, 1, -1), THREE), (LOW, TWO)], [(ONE, (0, 7, 0)), LINE], [(TWO, THREE), told[1]], [(ONE, TWO), told[1]], [LINE, told[1]],
+                  [((0, 1, -1), THREE), (LOW, TWO)], [(ONE, (0, 7, 0)), LINE], [(TWO, THREE), told[1]], [(ONE, TWO),
+                              told[1]], [LINE, told[1]],
                   [told[0], (LOW, ONE)], [told[0], (ZERO, TWO)], [told[1], told[0]]]
         for wrong in wrongs + [[told[0], wrong] for wrong in NO_SPANS] + [[wrong, LINE] for wrong in NO_SPANS]:
             self.assertIs(spans_paper_holds(program, spans, wrong), False, wrong)

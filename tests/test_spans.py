@@ -94,7 +94,8 @@ class TestHolding(unittest.TestCase):
 
     def test_infinite_ends(self):
         huge = (1 << 11999, 1, 1)
-        for span, value, told in [(LINE, huge, True), (LINE, (-1, 1 << 11999, 1), True), ((ONE, INF), huge, True), ((MINUS_INF, ONE), huge, False),
+        for span, value, told in [(LINE, huge, True), (LINE, (-1, 1 << 11999, 1), True), ((ONE, INF), huge, True), ((MINUS_INF,
+                    ONE), huge, False),
                                   ((MINUS_INF, ONE), (-(1 << 11999), 1, 1), True), (LINE, (1 << 11999, 1, 2), True)]:
             self.assertIs(holds_exact(span, value), told)
 

@@ -232,7 +232,8 @@ class TestPapers(unittest.TestCase):
                 for k, row in enumerate(rows):
                     for part in range(5):
                         bent = rows[:k] + [row[:part] + (row[part] + 1,) + row[part + 1:]] + rows[k + 1:]
-                        self.assertIs(standin_paper_holds(form, series, series2, (first[:at] + [bent] + first[at + 1:], second), mode=mode), False)
+                        self.assertIs(standin_paper_holds(form, series, series2, (first[:at] + [bent] + first[at + 1:], second),
+                                    mode=mode), False)
         self.assertGreater(count, 40)
 
     def test_longer_rows_are_taken(self):
@@ -299,7 +300,8 @@ class TestDivisionPair(unittest.TestCase):
 
     def test_not_asked_ahead_of_too_many(self):
         wide = (2, -600, 600)
-        for inner, mode, zero in [((2, 3, 4), "even", True), ((2, 3, 4), "up", False), ((2, -1, 0), "zero", False), ((2, 0, 0), "zero", True),
+        for inner, mode, zero in [((2, 3, 4), "even", True), ((2, 3, 4), "up", False), ((2, -1, 0), "zero", False), ((2, 0, 0),
+                    "zero", True),
                                   ((2, -600, -600), "even", True), ((2, -600, -600), "zero", False), ((2, -600, -600), "up", True)]:
             for last in (5, many(wide)):
                 if zero:

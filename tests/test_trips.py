@@ -165,7 +165,8 @@ class TestClaims(unittest.TestCase):
             self.assertNotEqual(call((4, 0, 3), 2, 1, 39), call((4, 0, 3), 2, 1, 39, reader="down"))
 
     def test_great_formats(self):
-        for form, count, holds in [((24, -149, 104), 9, True), ((24, -149, 104), 8, False), ((53, -600, 600), 17, True), ((53, -600, 600), 16, False)]:
+        for form, count, holds in [((24, -149, 104), 9, True), ((24, -149, 104), 8, False), ((53, -600, 600), 17, True), ((53, -600,
+                    600), 16, False)]:
             n = many(form)
             i = n - (50 << (form[0] - 1))
             told = trip_question(form, count, i, n)
